@@ -1,0 +1,1 @@
+"""Laterknown: planning resources while some values are not known yet."""
