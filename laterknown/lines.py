@@ -88,7 +88,7 @@ def check_room(at, form, lines):
 def read_line(at, text, lines):
     """The line that is written in a text, behind the lines that were read."""
     bare = text.lstrip(" ")
-    if bare == "" or bare.endswith(" "):
+    if bare.endswith(" "):
         raise BadProgram(at)
     place = place_behind(at, len(text) - len(bare), lines[-1] if lines else None)
     _, home, above = place

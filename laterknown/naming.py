@@ -1,6 +1,7 @@
 """Whether each name of a program is given once, and whether all that it names is there."""
 
 from laterknown.errors import Doubled, Unnamed
+from laterknown.lines import NOWHERE
 from laterknown.scopes import Block
 from laterknown.words import LETTERS
 
@@ -118,26 +119,24 @@ def are_keys(scope, expression):
 
 
 def wanted_names(kinds, outline, begun):
-    """The fields of a block or the inputs of a use; None if there is no such kind or module."""
+    """The fields of a block or the inputs of a use, whose kind or module is there."""
     if isinstance(begun, Block):
-        return fields_of_kind(kinds[begun.kind_name]) if begun.kind_name in kinds else None
-    module = outline.module(begun.module_name)
-    return None if module is None else tuple(module.takes)
+        return fields_of_kind(kinds[begun.kind_name])
+    return tuple(outline.module(begun.module_name).takes)
 
 
 def has_its_words(kinds, outline, line):
     """Whether there is what the words of a line name, and below the line all that is wanted there."""
     name = line.words[0]
-    if line.form == "deny":
-        return name in kinds
+    if line.form in ("resource", "deny") and name not in kinds:
+        return False
+    if line.form == "use" and outline.module(name) is None:
+        return False
     if line.form in ("resource", "use"):
         begun = outline.begun[line.at]
-        wanted = wanted_names(kinds, outline, begun)
-        return wanted is not None and all([part in begun.given for part in wanted])
-    if line.form in ("field", "give"):
-        wanted = wanted_names(kinds, outline, outline.begun[line.above])
-        return wanted is not None and name in wanted
-    return True
+        return all([part in begun.given for part in wanted_names(kinds, outline, begun)])
+    # The line of the block or use was looked at before.
+    return line.above == NOWHERE or name in wanted_names(kinds, outline, outline.begun[line.above])
 
 
 def is_all_named(kinds, outline, line):

@@ -1,6 +1,6 @@
 """What the lines of a program give: the root and the modules, with all that is named in them."""
 
-from laterknown.lines import ROOT
+from laterknown.lines import NOWHERE, ROOT
 
 
 class Block:
@@ -34,12 +34,11 @@ class Scope:
 
 
 class Outline:
-    """The scopes of a program, by the lines with which they begin, and its rules (kind, expression)."""
+    """The scopes of a program, and its blocks and uses, by the lines with which they begin."""
 
     def __init__(self):
         self.scopes = {ROOT: Scope()}
         self.homes = {}
-        self.rules = []
         self.begun = {}
 
     def root(self):
@@ -69,9 +68,7 @@ class Outline:
         elif line.form == "module":
             self.scopes[line.at] = Scope()
             self.homes[name] = line.at
-        elif line.form == "deny":
-            self.rules.append((name, line.expression))
-        else:
+        elif line.above != NOWHERE:
             self.begun[line.above].given[name] = line.expression
 
 

@@ -239,6 +239,7 @@ class FormsTest(ExpressionCase):
         self.assert_good("net.z.id", "net.z.range", "net.z.zone", "box.extra[*].label", 'box.extra["a" ].id')
         self.assert_good("box.extra[0].size", "box.extra[if a then 1 else 2].size", "box.extra[box.extra[0].size].id")
         self.assert_bad("net.", "net.z.", ".z", "net.z.id.x", "net.z.id.x.y", "net..z", "net.[0].id", "net.z.[0]")
+        self.assert_bad("box.extra[", "box.extra[*", "box.extra[0", "box.extra[*].size[", "box.extra]")
         self.assert_bad("box.extra[*]", "box.extra[*].", "box.extra[].size", "box.extra[*][0].size", "box[*].extra.id")
         self.assert_bad("box.extra[0].", "box.extra[0].size.x", "box.extra[0][1].size", "box.extra[1, 2].size")
         self.assert_bad("net.z.id[*]", "net.z.id[*].x", "box.extra[*].size[*]", "main[0].sizes", "(net.z).id")
@@ -286,7 +287,8 @@ class DepthTest(ExpressionCase):
         self.assert_good(f"(1) + [2] + len(xs) + ({nineteen})", f"({nineteen}) + (1)", f"[{nineteen}, {nineteen}]")
         self.assert_good("xs" + "[0]" * 90, f"xs[{nineteen}][{nineteen}]", f"{nineteen}[0]" + "[1]" * 40)
         self.assert_good("not true and " * 22 + "true", " + ".join(["(1)"] * 40))
-        self.assert_good("if [1] then (1) else (2)")
+        self.assert_good("if [1] then (1) else (2)", f"[if 1 then 2 else 3, not 4, {nineteen}]")
+        self.assert_good(f"[box.extra[0].size, main.sizes[0], xs[0], len(xs), [1], {nineteen}]")
 
     def test_an_index_stands_in_its_brackets_alone(self):
         twenty = "(" * 20 + "xs" + ")" * 20

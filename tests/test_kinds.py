@@ -186,6 +186,10 @@ class KindsTest(unittest.TestCase):
         other = read_kinds(KINDS_TEXT)
         self.assertTrue(KINDS["net"] == other["net"])
         self.assertFalse(KINDS["net"] == other["box"])
+        self.assertFalse(read_kinds("kind a")["a"] == read_kinds("kind b")["b"])
+        self.assertFalse(read_kinds("kind a\n  held")["a"] == read_kinds("kind a\n  single")["a"])
+        for thing in NO_STRINGS + ("net", KINDS):
+            self.assertFalse(KINDS["net"] == thing)
 
     def test_properties(self):
         for name in ("name set_fields fixed_fields fresh_answers free_answers unique_fields held single token "

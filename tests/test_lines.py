@@ -156,10 +156,13 @@ class PlacesTest(LinesCase):
 
     def test_nothing_stands_below_other_lines(self):
         for row in ("let a 1", "deny net true"):
-            for below in ("  range 1", "  input a", "    range 1"):
-                self.assert_bad(lines(row, below), 1)
+            for below in ("range 1", "input a", "let b 1", "resource net y", "module n", "output b 1", "deny net true"):
+                self.assert_bad(lines(row, "  " + below), 1)
+                self.assert_bad(lines(row, "    " + below), 1)
         for row in ("  input a", "  let a 1", "  output a 1"):
-            self.assert_bad(lines("module m", row, "    range 1"), 2)
+            for below in ("range 1", "input b", "let b 1", "resource net y", "output b 1"):
+                self.assert_bad(lines("module m", row, "    " + below), 2)
+                self.assert_bad(lines("module m", row, "      " + below), 2)
         self.assert_bad(lines("resource net z", "  range 1", "    range 1"), 2)
         self.assert_bad(lines("module m", "    range 1"), 1)
 

@@ -142,6 +142,8 @@ class UnnamedTest(NamingCase):
         self.assert_unnamed(0, "resource home z")
         self.assert_unnamed(0, "deny cat true")
         self.assert_unnamed(1, "module m", "  resource cat z")
+        self.assert_unnamed(0, "let a cat.z.id", "resource cat z")
+        self.assert_unnamed(0, "let a cat.z[0].id", "resource cat z count 1")
         self.assert_one("cat.z.id", False)
         self.assert_one("cat.z[0].id", False)
         self.assert_one("cat.z[*].id", False)
@@ -328,6 +330,7 @@ class KeysTest(NamingCase):
 
     def test_lets(self):
         self.assert_keys("xs", 'let xs ["a"]')
+        self.assert_no_keys('"xs"', 'let xs ["a"]')
         self.assert_keys("xs ++ ys", 'let xs ["a"] ++ ys', 'let ys if one == 1 then ["b"] else []')
         self.assert_keys("if true then xs else (xs)", 'let xs ["a"]')
         self.assert_no_keys("xs", "let xs one")

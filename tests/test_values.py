@@ -129,6 +129,10 @@ class RecordTest(unittest.TestCase):
             self.assertEqual(outcome_of(lambda: Record(**{name: 1})), ("BadRecord", {name: 1}), name)
             self.assertEqual(outcome_of(Record.of, (("b", 2), (name, 1))), ("BadRecord", {"b": 2, name: 1}))
 
+    def test_names_that_are_no_strings(self):
+        for name in (1, True, None, (), ("a", 1)):
+            self.assertEqual(outcome_of(Record.of, ((name, 1),)), ("BadRecord", {name: 1}))
+
     def test_self_is_no_name(self):
         self.assertEqual(outcome_of(Record.of, (("a", 2), ("self", 1))), ("BadRecord", {"a": 2, "self": 1}))
 
