@@ -81,35 +81,6 @@ def ways_of(kinds, outline):
     return ways
 
 
-def nodes_leading_on(ways):
-    """The nodes from which a way has no end."""
-    many = {node: len(ways[node]) for node in ways}
-    behind = {node: [] for node in ways}
-    for node in ways:
-        for further in ways[node]:
-            behind[further].append(node)
-    ended = [node for node in many if many[node] == 0]
-    while ended:
-        gone = ended.pop()
-        for node in behind[gone]:
-            many[node] -= 1
-            if many[node] == 0:
-                ended.append(node)
-    return {node: True for node in ways if many[node] > 0}
-
-
-def ring_in(ways):
-    """Any ring of nodes, () if there is none."""
-    endless = nodes_leading_on(ways)
-    way = list(endless)[:1]
-    while way:
-        further = [node for node in ways[way[-1]] if node in endless][0]
-        if further in way:
-            return tuple(way[way.index(further):])
-        way.append(further)
-    return ()
-
-
 def is_ring(ways, value):
     """Whether any value is a ring of nodes."""
     if not isinstance(value, tuple) or not value:

@@ -1,9 +1,11 @@
 """Programs: how they are read and shown."""
 
 from laterknown.errors import RingOfNames
+from laterknown.layout import layout_of
 from laterknown.lines import read_lines
 from laterknown.naming import check_doubled, check_named
-from laterknown.nodes import is_ring, ring_in, ways_of
+from laterknown.nodes import is_ring, ways_of
+from laterknown.rings import ring_in
 from laterknown.scopes import outline_of, written_blocks
 from laterknown.showing import show_lines
 
@@ -15,6 +17,7 @@ class Program:
         self._kinds = kinds
         self.lines = lines
         self.outline = outline
+        self.layout = layout_of(kinds, outline, lines)
         self._blocks = written_blocks(lines, outline)
         # Programs are equal just if they are shown alike, for blanks and needless parentheses are not kept.
         self._text = show_lines(lines)

@@ -78,3 +78,16 @@ def problem_of(text, kinds=KINDS):
     except LaterError as error:
         return error.__class__.__name__, error.value
     return None
+
+
+def lines(*rows):
+    """The text of these lines."""
+    return "\n".join(rows)
+
+
+def same(one, other):
+    """Whether two values are alike, as a record compares its parts."""
+    return Record(a=one) == Record(a=other)
+
+
+ANY_VALUES = ("", "a", "net.z", "box.c", "#1.id", "box", *NO_STRINGS)
