@@ -20,12 +20,11 @@ class Asked:
         self.given = given
         self.choices = {}
         self.owners = {}
-        self.new_texts = {}
         self.has_grown = True
 
     def unused_text(self):
         """A text that stands nowhere yet."""
-        many = len(self.new_texts)
+        many = 0
         while f"new-{many}" in self.used_texts:
             many += 1
         self.used_texts[f"new-{many}"] = True
@@ -34,9 +33,7 @@ class Asked:
     def ask(self, pair):
         """Takes up a free answer that is asked for."""
         if pair not in self.choices:
-            text = self.unused_text()
-            self.new_texts[pair] = text
-            self.choices[pair] = [unknown_of(*pair), text]
+            self.choices[pair] = [unknown_of(*pair), self.unused_text()]
             for generic in self.choices[pair]:
                 self.owners[generic] = pair
             for row in self.given:
@@ -51,11 +48,9 @@ class Asked:
             self.has_grown = True
 
     def note(self, one, other):
-        """Takes up that two unlike strings were compared, if the first one stands for any text of an answer."""
-        if one in self.owners:
-            text = self.new_texts[self.owners[other]] if other in self.owners else other
-            if is_text(text):
-                self.widen(self.owners[one], text)
+        """Takes up that a value was compared with an unlike one, if it stands for any text of an answer."""
+        if one in self.owners and is_text(other):
+            self.widen(self.owners[one], other)
 
     def are_alike(self, one, other):
         """Whether two values are alike; what this hangs on is taken up."""
@@ -68,9 +63,8 @@ class Asked:
             return True
         if alike(one, other):
             return True
-        if isinstance(one, str) and isinstance(other, str):
-            self.note(one, other)
-            self.note(other, one)
+        self.note(one, other)
+        self.note(other, one)
         return False
 
     def are_alike_records(self, one, other):

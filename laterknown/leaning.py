@@ -12,6 +12,7 @@ class Leaning:
         self.asked = asked
         self.cases = cases
         self.groups = {}
+        self.looks_at_others = False
 
     def leans(self, case, address):
         """Whether an address that is wished and has an entry leans in a case."""
@@ -20,6 +21,7 @@ class Leaning:
         members = {place: True for place in places if self.is_strictly_held(case, place, depth)}
         if not members:
             return False
+        self.looks_at_others = True
         lower = [place for place in case.standings if self.is_new(case, place) and self.site_at(place).depth < depth]
         has_grown = True
         while has_grown:

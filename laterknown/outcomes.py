@@ -1,7 +1,7 @@
 """Outcomes: how all addresses stand under one row of answers."""
 
 from laterknown.errors import NoAddress
-from laterknown.surveys import Survey
+from laterknown.surveys import case_of_row
 
 
 class Outcome:
@@ -74,7 +74,4 @@ def outcome_in(case):
 
 def outcome(program, state, row=()):
     """The outcome of a program and a state under a row of answers."""
-    given = dict(row)
-    survey = Survey(program, state, (given,))
-    survey.settle()
-    return outcome_in(survey.case_under(given))
+    return outcome_in(case_of_row(program, state, dict(row)))

@@ -29,13 +29,17 @@ class Survey:
         """Looks at rows until no further ones have to be looked at."""
         while self.asked.has_grown:
             self.asked.has_grown = False
-            recorded = self.things.recorded
-            self.cases = [Case(self.layout, recorded, self.asked, row) for row in self.asked.rows()]
-            leaning = Leaning(self.layout, self.things, self.asked, self.cases)
-            for depth in self.layout.depths():
-                self.settle_depth(self.layout.sites_of_depth(depth), leaning)
-            for case in self.cases:
-                self.finish(case)
+            self.settle_rows(self.asked.rows())
+
+    def settle_rows(self, rows):
+        """Looks at these rows; returns whether other rows matter for what holds under them."""
+        self.cases = [Case(self.layout, self.things.recorded, self.asked, row) for row in rows]
+        leaning = Leaning(self.layout, self.things, self.asked, self.cases)
+        for depth in self.layout.depths():
+            self.settle_depth(self.layout.sites_of_depth(depth), leaning)
+        for case in self.cases:
+            self.finish(case)
+        return leaning.looks_at_others
 
     def case_under(self, row):
         """The case of one of the given rows."""
@@ -103,6 +107,16 @@ class Survey:
                 if one.site.block.kind_name == other.site.block.kind_name:
                     found.update({address: True for address in self.shaper.clashing(one, other)})
         return found
+
+
+def case_of_row(program, state, row):
+    """The case of one row, a dict of texts by pairs."""
+    survey = Survey(program, state, (row,))
+    if not survey.settle_rows([row]):
+        return survey.cases[0]
+    survey = Survey(program, state, (row,))
+    survey.settle()
+    return survey.case_under(row)
 
 
 def settle_standing(standing, of_kind, unlike, leans):

@@ -1,7 +1,6 @@
 """What is told beforehand of the things that a stage makes, changes or replaces."""
 
 from laterknown.addresses import coming_answer, ids_in, kind_of
-from laterknown.cases import MAKING
 from laterknown.evaluation import NoValue, Spot, value_of
 from laterknown.staging import stage_in, survey_of
 from laterknown.values import Record, alike
@@ -42,7 +41,7 @@ def later_answer(stage, values):
         return coming_answer(values[0])
     for pair in stage.survey.asked.choices:
         texts = [case.row[pair] for case in stage.survey.cases]
-        if stage.deeds.get(pair[0], "") in MAKING and alike(tuple(values), tuple(texts)):
+        if alike(tuple(values), tuple(texts)):
             return pair
     return None
 

@@ -103,6 +103,14 @@ class LeaningTest(unittest.TestCase):
         self.assert_leans(False, rows, entries, left=(("box.z", (3, 0, 0)),))
         self.assert_leans(False, rows, entries)
 
+    def test_left_things_that_hold_one_another(self):
+        rows = (*thing("a", 1), *thing("b", 5, "net.a.id", "box"))
+        entries = {"net.a": (1, 0, 0), "box.b": (2, 5, "#3.id")}
+        left = (("box.z", (3, 0, "#4.id")), ("box.y", (4, 0, ("#3.id", "#2.id"))))
+        self.assert_leans(False, rows, entries, left=left)
+        left = (left[0], ("box.y", (4, "#1.id", ("#3.id", "#2.id"))))
+        self.assert_leans(True, rows, entries, left=left)
+
     def test_not_over_entries(self):
         rows = (*thing("a", 1), *thing("b", 5, "net.a.id", "box"), *thing("m", 1, '"m"', "box"))
         entries = {"net.a": (1, 0, 0), "box.b": (2, 5, "#3.id"), "box.m": (3, 1, "#1.id")}
@@ -137,6 +145,23 @@ class LeaningTest(unittest.TestCase):
         self.assert_leans(True, rows, entries)
         rows = (*thing("a", 1), *between, *thing("b", 5, "box.m.f", "box"))
         self.assert_leans(False, rows, entries)
+
+    def test_a_thing_between_that_is_kept_under_this_row(self):
+        # The thing between is replaced only if the zone of the net is x; its own zone does not matter else.
+        rows = (*thing("a", 1), *thing("m", 'net.a.zone == "x"', "0", "box"), *thing("b", 5, 'box.m.zone == "eu"', "box"))
+        entries = {"net.a": (1, 0, 0), "box.m": (3, False, 0), "box.b": (2, 5, "#1.id")}
+        for zone, leans in (("eu", True), ("us", False)):
+            found = self.assert_leans(leans, rows, entries, row=((("box.m", "zone"), zone),))
+            self.assertEqual(found["box.m"], "none")
+        self.assert_leans(False, rows, entries)
+        self.assert_leans(True, rows, entries, row=((("net.a", "zone"), "x"),))
+
+    def test_a_thing_between_that_cannot_be_evaluated(self):
+        rows = (*thing("a", 1), *thing("m", 3, "[net.a.id][1]", "box"), *thing("b", 5, "net.a.id", "box"))
+        entries = {"net.a": (1, 0, 0), "box.b": (2, 5, "#1.id")}
+        for more in ({}, {"box.m": (3, 3, 0)}):
+            found = self.assert_leans(True, rows, {**entries, **more})
+            self.assertEqual(found.fault_of("box.m"), "evaluate")
 
     def test_a_chain_of_things_between(self):
         rows = [*thing("a", 1)]

@@ -68,6 +68,14 @@ class EndingTest(unittest.TestCase):
         self.assertEqual(planned(rows, entries)[0], ["make net.z", "make box.a", "drop 1", "drop 2"])
 
 
+    def test_a_delete_that_comes_late(self):
+        rows = (*block("pad", "p"), *block("box", "h", h="rock.s.id"), *block("rock", "s"))
+        entries = {"pad.p": thing(1, f=0), "box.h": thing(2, h="#1.id")}
+        self.assertEqual(planned(rows, entries)[0], ["make rock.s", "change box.h", "delete pad.p", "make pad.p"])
+        entries["box.h"] = thing(2)
+        self.assertEqual(planned(rows, entries)[0], ["delete pad.p", "make pad.p", "make rock.s", "change box.h"])
+
+
 class UniqueTest(unittest.TestCase):
     """Rule (4)."""
 
@@ -133,6 +141,13 @@ class HoldingTest(unittest.TestCase):
         entries = {"net.p": thing(1), "net.q": thing(2, u="#4.id"), "net.r": thing(3, h="#1.id")}
         self.assertEqual(planned(rows, entries)[0], ["change net.p", "change net.q", "change net.r"])
 
+    def test_over_things_that_hold_one_another(self):
+        rows = (*block("rock", "p", h="rock.q.id"), *block("rock", "q"), *block("rock", "r"))
+        entries = {"rock.p": thing(1), "rock.q": thing(2, h="#3.id"), "rock.r": thing(3, h="#2.id")}
+        self.assertEqual(planned(rows, entries)[0], ["change rock.p", "change rock.q", "change rock.r"])
+        entries["rock.r"] = thing(3, h=("#2.id", "#1.id"))
+        self.assertEqual(planned(rows, entries)[0], ["change rock.q", "change rock.r", "change rock.p"])
+
     def test_over_left_things_and_deletes(self):
         rows = (*block("net", "p", h="net.q.id"), *block("net", "q"))
         entries = {"net.p": thing(1), "net.q": thing(2, h="#9.id")}
@@ -158,9 +173,15 @@ class HoldingTest(unittest.TestCase):
             "make net.m", "make net.n", "make net.zz", "change net.q", "change net.p"])
 
     def test_a_change_that_keeps_holding(self):
-        # The other one holds the first one before and after.
-        rows = (*block("net", "p", h='if net.z.zone == "eu" then 1 else 2'), *NET)
-        self.assertEqual(planned(rows, {"net.p": thing(1)})[0], ["make net.z", "change net.p"])
+        # r holds p before and after, so it does not let p go.
+        rows = (*block("net", "p", h="net.q.id"), *block("net", "q"), *block("net", "r", u="1", h="net.p.id"))
+        for number in (1, 5):
+            entries = {"net.p": thing(number), "net.q": thing(2, h="#3.id"), "net.r": thing(3, h=f"#{number}.id")}
+            self.assertEqual(planned(rows, entries)[0], ["change net.p", "change net.q", "change net.r"])
+            entries["net.r"] = thing(3, u=f"#{number}.id", h=f"#{number}.id")
+            self.assertEqual(planned(rows, entries)[0], ["change net.p", "change net.q", "change net.r"])
+        rows = (*rows[:8], *block("net", "r", u="1"))
+        self.assertEqual(planned(rows, entries)[0], ["change net.q", "change net.r", "change net.p"])
 
 
 class RingsTest(unittest.TestCase):

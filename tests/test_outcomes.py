@@ -71,7 +71,19 @@ class ZonedTest(unittest.TestCase):
         self.assertIn("box.extra[a]", self.found((ZONE, "eu"), state=state(net_z=net(4, value=8, zone="us"))))
 
     def test_equal_calls(self):
-        self.assertEqual(actions(self.found((ZONE, "eu"))), actions(self.found((ZONE, "eu"))))
+        self.assertTrue(self.found((ZONE, "eu")) == self.found((ZONE, "eu")))
+        self.assertTrue(self.found() == self.found((ZONE, "us")))
+        self.assertFalse(self.found() == self.found((ZONE, "eu")))
+        self.assertFalse(self.found() == self.found(state=state(net_z=net(1))))
+        # Nothing is alike but for the blocks that cannot be evaluated.
+        texts = [f"resource box {name} count 13\n  size 1\n  net 1\n  label 1" for name in "ab"]
+        found, other = [outcome(read_program(KINDS, text), State()) for text in texts]
+        self.assertEqual((len(found), len(other)), (0, 0))
+        self.assertFalse(found == other)
+        for value in (*ANY_VALUES, State()):
+            self.assertFalse(found == value)
+
+    def test_arguments_by_name(self):
         program, empty = read_program(KINDS, ZONED), State()
         found = outcome(program=program, state=empty, row=((ZONE, "eu"),))
         self.assertEqual(found.fields_of(address="box.extra[a]")["size"], 1)
@@ -175,6 +187,12 @@ class FaultsTest(unittest.TestCase):
         self.assertEqual(set(self.words(found).values()), {None})
         found = self.found(*self.thing("a", 1, "[1, true]"), *self.thing("b", 1, "[1] ++ [true]"))
         self.assertEqual(set(self.words(found).values()), {"unique"})
+
+    def test_two_unique_fields(self):
+        kinds = read_kinds("kind thing\n  set s\n  fixed u\n  unique s\n  unique u")
+        for b, words in (((1, 6), ["unique", "unique"]), ((2, 5), ["unique", "unique"]), ((5, 1), [None, None])):
+            text = lines(*self.thing("a", 1, 5), *self.thing("b", *b))
+            self.assertEqual(list(self.words(outcome(read_program(kinds, text), State())).values()), words)
 
     def test_other_kinds_do_not_matter(self):
         found = self.found(*self.thing("a", 1, 5), "resource other b", "  u 5")

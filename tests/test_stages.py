@@ -40,6 +40,18 @@ class PlanTest(unittest.TestCase):
         found = plan(program, state_of(KINDS, tuple(entries)))
         self.assertEqual((found.steps, found.waiting), ((("delete", "box.extra[a]"),), ()))
 
+    def test_equal_calls(self):
+        program = read_program(KINDS, ZONED)
+        self.assertTrue(plan(program, State()) == plan(program, State()))
+        for text in (ZONED.replace("range 9", "range 8"), ZONED.replace('["a"] else []', '["b"] else []'), ZONED + "\nlet x 1",
+                     ZONED.replace("net.z.zone", "home").replace('"eu"', "home"), ZONED.replace("count 2", "count 1")):
+            other = plan(read_program(KINDS, text), State())
+            self.assertIs(plan(program, State()) == other, text.endswith("let x 1"), text)
+        for value in (*ANY_VALUES, State()):
+            self.assertFalse(plan(program, State()) == value)
+        one, other = [plan(staged_program(), staged_state({address: thing(1)})) for address in ("net.a", "net.b")]
+        self.assertFalse(one == other)
+
     def test_nothing_to_do(self):
         self.assertEqual(planned((), {}), ([], []))
         self.assertEqual(planned(NET, {"net.z": thing(1)}), ([], []))
@@ -198,6 +210,23 @@ class HoldersTest(unittest.TestCase):
         rows = (*ROCK, *block("net", "z", h="rock.r.id"), *block("box", "x"))
         entries = {**GUARDED, "net.z": thing(5, f=0)}
         self.assertEqual(planned(rows, entries), (["make box.x"], ["net.z", "rock.r"]))
+
+    def test_a_left_thing_beside_the_new_one_of_its_address(self):
+        # The thing that is left stays, though that of its address goes.
+        left = (("net.x", thing(9, h="#1.id")),)
+        entries = {"net.old": thing(1), "net.x": thing(2), "rock.r": thing(3, h="#9.id")}
+        self.assertEqual(planned(block("rock", "r", f="2"), entries, left), (
+            ["delete net.x"], ["left 9", "net.old", "rock.r"]))
+        left = (("hub.x", thing(9, u=5)),)
+        entries = {"hub.x": thing(2, u=6), "rock.r": thing(3, h="#9.id")}
+        rows = (*block("rock", "r", f="2"), *block("hub", "n", u="5"))
+        self.assertEqual(planned(rows, entries, left), (["delete hub.x"], ["hub.n", "left 9", "rock.r"]))
+
+    def test_a_left_thing_beside_a_changed_one(self):
+        left = (("net.x", thing(9, h="#1.id")),)
+        entries = {"net.old": thing(1), "net.x": thing(2), "rock.r": thing(3, h="#9.id")}
+        rows = (*block("rock", "r", f="2"), *block("net", "x", u="1"))
+        self.assertEqual(planned(rows, entries, left), (["change net.x"], ["left 9", "net.old", "rock.r"]))
 
     def test_guarded_left_things_are_dropped(self):
         self.assertEqual(planned((), {}, (("rock.r", thing(7)),)), (["drop 7"], []))

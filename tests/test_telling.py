@@ -105,6 +105,17 @@ class ToldTest(unittest.TestCase):
         self.assert_told('net.z.zone in ["eu", "us"]', OPEN)
         self.assert_told('if net.z.zone == "eu" then "eu" else "us"', OPEN)
 
+    def test_texts_like_those_that_stand_for_others(self):
+        # Two answers may be equal to one another, and to no text that is written or recorded.
+        texts = '"new-0", "new-1", "new-2"'
+        self.assert_told(f"if net.z.zone == net.y.zone then net.z.zone in [{texts}] else true", OPEN)
+        rows, entries = [], {}
+        for at in range(3):
+            rows += block("pad", f"{'abc'[at]}")
+            entries[f"pad.{'abc'[at]}"] = thing(at + 1, zone=f"new-{at}")
+        self.assert_told("if net.z.zone == net.y.zone then net.z.zone in [pad.a.zone, pad.b.zone, pad.c.zone] else true",
+                         OPEN, *rows, entries=entries)
+
     def test_changed_and_replaced_things(self):
         rows = (*block("net", "z"), *block("net", "y", f="2", h="net.z.id"), *block("box", "b", h="net.z.zone", u="4"),
                 *block("pad", "p", f="3", h="net.y.id"))
