@@ -59,7 +59,7 @@ class Order:
         """Puts a step behind the makes of whose answers it has need."""
         coming = self.stage.prospects[address].coming
         for other, deed in self.stage.deeds.items():
-            if deed in MAKING and other != address and (other in coming or self.hangs_on(address, other)):
+            if deed in MAKING and (other in coming or self.hangs_on(address, other)):
                 self.put(step, ("make", other))
 
     def hangs_on(self, address, other):

@@ -157,7 +157,8 @@ class LeaningTest(unittest.TestCase):
         self.assert_leans(True, rows, entries, row=((("net.a", "zone"), "x"),))
 
     def test_a_thing_between_that_cannot_be_evaluated(self):
-        rows = (*thing("a", 1), *thing("m", 3, "[net.a.id][1]", "box"), *thing("b", 5, "net.a.id", "box"))
+        rows = (*thing("a", 1), *thing("m", 3, "[net.a.id][1]", "box"), *thing("k", 3, "net.a.id", "box"),
+                *thing("b", 5, "box.k.id", "box"))
         entries = {"net.a": (1, 0, 0), "box.b": (2, 5, "#1.id")}
         for more in ({}, {"box.m": (3, 3, 0)}):
             found = self.assert_leans(True, rows, {**entries, **more})
@@ -211,6 +212,11 @@ class LeaningTest(unittest.TestCase):
         found = self.found(rows, entries, marks=("guarded",))
         self.assertEqual((found["net.a"], found.fault_of("net.a"), found.is_strict("net.a")), ("fault", "guarded", True))
         self.assertEqual((found["box.b"], found.leans("box.b")), ("behind", True))
+        text = lines("kind net", *[f"  {mark}" for mark in (*MARKS, "held", "single")],
+                     "kind box", *[f"  {mark}" for mark in (*MARKS, "guarded")])
+        found = self.found(rows, entries, kinds=text)
+        self.assertEqual((found["box.b"], found.fault_of("box.b")), ("fault", "guarded"))
+        self.assertEqual((found.leans("box.b"), found.is_strict("box.b")), (True, True))
         found = self.found((*rows, *thing("c", 2)), entries, marks=("unique s",))
         self.assertEqual((found.fault_of("net.a"), found.is_strict("net.a"), found["box.b"]), ("unique", True, "behind"))
 

@@ -3,6 +3,7 @@
 import unittest
 
 from laterknown.errors import NoAddress, Unsettled
+from laterknown.outcomes import outcome
 from laterknown.programs import read_program
 from laterknown.stages import Plan, plan
 from laterknown.states import Row, State, state_of
@@ -51,6 +52,16 @@ class PlanTest(unittest.TestCase):
             self.assertFalse(plan(program, State()) == value)
         one, other = [plan(staged_program(), staged_state({address: thing(1)})) for address in ("net.a", "net.b")]
         self.assertFalse(one == other)
+
+    def test_arguments_do_not_change(self):
+        program, row = read_program(KINDS, ZONED), ((("net.z", "zone"), "eu"),)
+        entries = (("net.z", 3, Record(range=8), Record(id="#3.id", zone="eu")),)
+        state = state_of(KINDS, entries)
+        for call in (plan, judged, outcome):
+            call(program, state)
+        outcome(program, state, row)
+        self.assertEqual((program, state), (read_program(KINDS, ZONED), state_of(KINDS, entries)))
+        self.assertEqual((row, State()), (((("net.z", "zone"), "eu"),), state_of(KINDS, ())))
 
     def test_nothing_to_do(self):
         self.assertEqual(planned((), {}), ([], []))

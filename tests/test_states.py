@@ -50,6 +50,9 @@ class StateTest(unittest.TestCase):
             self.assertTrue(state_of(KINDS, entries) == self.state)
             self.assertFalse(state_of(KINDS, entries) != self.state)
 
+    def test_arguments_by_name(self):
+        self.assertEqual(state_of(kinds=KINDS, entries=(BOX, NET, DEEP, DEEPER)), self.state)
+
     def test_other_states(self):
         address, number, fields, answers = DEEP
         for other in (
