@@ -7,10 +7,10 @@ class Prospect:
     """The new fields of an address that is made, changed or replaced under all rows.
 
     Told are: for each case the sort of its fields, the same number where they are alike (sorts), and whether
-    there are several (varies); the addresses
-    whose fresh answers to come they have under some row (coming); the numbers of the things that they hold
-    under some row (holding); the things with which they meet in a unique value under some row (meeting); and
-    the fields that are unlike the recorded ones under some row and under all rows (touched, altered).
+    there are several (varies); the addresses whose fresh answers to come they have under some row (coming); the
+    numbers of the things that they hold under some row (holding); the things with which they meet in a unique
+    value under some row (meeting); and the fields that are unlike the recorded ones under some row (touched)
+    and under all rows (altered).
     """
 
     def __init__(self, address, shapes):

@@ -45,7 +45,8 @@ class EvaluationCase(unittest.TestCase):
 class WrittenTest(EvaluationCase):
     def test_written_values(self):
         for text, value in (
-                ("1", 1), ("-1", -1), ("0", 0), ("1000000", 10 ** 6), ("-1000000", -10 ** 6), ('""', ""), ('"eu-1"', "eu-1"),
+                ("1", 1), ("-1", -1), ("0", 0), ("1000000", 10 ** 6), ("-1000000", -10 ** 6), ('""', ""),
+                ('"eu-1"', "eu-1"),
                 ("true", True), ("false", False), ("[]", ()), ('[1, "a", [true]]', (1, "a", (True,)))):
             self.assert_value(text, value)
 
@@ -91,7 +92,8 @@ class SumTest(EvaluationCase):
 class OrderTest(EvaluationCase):
     def test_less_and_more(self):
         for text, value in (
-                ("1 < 2", True), ("2 < 1", False), ("1 < 1", False), ("1 > 1", False), ("2 > 1", True), ("1 > 2", False),
+                ("1 < 2", True), ("2 < 1", False), ("1 < 1", False), ("1 > 1", False), ("2 > 1", True),
+                ("1 > 2", False),
                 ("-2 < -1", True)):
             self.assert_value(text, value)
 
@@ -181,7 +183,8 @@ class ListTest(EvaluationCase):
     def test_the_longest_join(self):
         eight, nine = "[" + ", ".join("12345678") + "]", "[" + ", ".join("123456789") + "]"
         self.assert_value(f"{eight} ++ {eight}", tuple(range(1, 9)) * 2)
-        self.assert_none(f"{eight} ++ {nine}", f"({eight} ++ {nine})[0]", f"len({eight} ++ {nine})", f"{eight} ++ {eight} ++ [1]")
+        self.assert_none(f"{eight} ++ {nine}", f"({eight} ++ {nine})[0]", f"len({eight} ++ {nine})",
+            f"{eight} ++ {eight} ++ [1]")
 
     def test_length(self):
         self.assert_value("len([])", 0)

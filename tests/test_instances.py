@@ -44,7 +44,8 @@ class InstancesTest(unittest.TestCase):
 
     def test_keys(self):
         self.assertEqual(self.instances(" each []"), [])
-        self.assertEqual(self.instances(' each ["b", "a"] ++ (if true then ["c-9"] else ["d"])'), ["[a]", "[b]", "[c-9]"])
+        self.assertEqual(self.instances(' each ["b", "a"] ++ (if true then ["c-9"] else ["d"])'),
+            ["[a]", "[b]", "[c-9]"])
         sixteen = ", ".join([f'"{letter}"' for letter in "abcdefghijklmnop"])
         self.assertEqual(len(self.instances(f" each [{sixteen}]")), 16)
 
@@ -68,8 +69,9 @@ class InstancesTest(unittest.TestCase):
             self.assertEqual(self.instances(how), others, how)
 
     def test_addresses_of_a_blocked_block(self):
+        places = ("box.b", "box.b[0]", "box.b[7]", "box.b[x]", "box.c[0]", "main/box.b[0]")
         entries = [(address, at + 1, Record(size=1, net=1, label=at + 7), Record(id=f"#{at + 1}.id"))
-                   for at, address in enumerate(("box.b", "box.b[0]", "box.b[7]", "box.b[x]", "box.c[0]", "main/box.b[0]"))]
+                   for at, address in enumerate(places)]
         state = state_of(KINDS, tuple(entries))
         found = self.found(*box(" count 13"), state=state)
         for address in ("box.b", "box.b[0]", "box.b[7]", "box.b[x]"):
@@ -95,12 +97,14 @@ class InstancesTest(unittest.TestCase):
 class AddressesTest(unittest.TestCase):
     def test_kinds_of_any_string(self):
         for address, kind in (
-                ("box.c", "box"), ("main/box.b[0]", "box"), ("box", "box"), ("a/b/net.z.y", "net"), ("", ""), ("a/", ""),
+                ("box.c", "box"), ("main/box.b[0]", "box"), ("box", "box"), ("a/b/net.z.y", "net"), ("", ""),
+                ("a/", ""),
                 (".a", ""), ("box.a[b/c].d", "c]")):
             self.assertEqual(kind_of(address), kind, address)
 
     def test_blocks(self):
-        for address, block in (("box.c", "box.c"), ("main/box.b[0]", "main/box.b"), ("box.extra[a]", "box.extra"), ("", "")):
+        for address, block in (("box.c", "box.c"), ("main/box.b[0]", "main/box.b"), ("box.extra[a]", "box.extra"),
+            ("", "")):
             self.assertEqual(block_of(address), block)
 
 

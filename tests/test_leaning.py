@@ -57,14 +57,16 @@ class LeaningTest(unittest.TestCase):
         self.assert_leans(True, rows, {"net.a": (1, 0, 0), "box.b": (2, 5, ((7, "#1.id"),))})
 
     def test_the_kind_has_to_be_held(self):
-        text = lines("kind net", *[f"  {mark}" for mark in (*MARKS, "single")], "kind box", *[f"  {mark}" for mark in MARKS])
+        text = lines("kind net", *[f"  {mark}" for mark in (*MARKS, "single")], "kind box",
+            *[f"  {mark}" for mark in MARKS])
         rows = (*thing("a", 1), *thing("b", 5, "net.a.id", "box"))
         entries = {"net.a": (1, 0, 0), "box.b": (2, 5, "#1.id")}
         found = self.assert_leans(False, rows, entries, kinds=text)
         self.assertEqual((found["net.a"], found["box.b"]), ("behind", "change"))
 
     def test_the_held_one_has_to_be_strict(self):
-        text = lines("kind net", *[f"  {mark}" for mark in (*MARKS, "held")], "kind box", *[f"  {mark}" for mark in MARKS])
+        text = lines("kind net", *[f"  {mark}" for mark in (*MARKS, "held")], "kind box",
+            *[f"  {mark}" for mark in MARKS])
         rows = (*thing("a", 1), *thing("b", 5, "net.a.id", "box"))
         entries = {"net.a": (1, 0, 0), "box.b": (2, 5, "#1.id")}
         found = self.assert_leans(False, rows, entries, kinds=text)
@@ -148,7 +150,8 @@ class LeaningTest(unittest.TestCase):
 
     def test_a_thing_between_that_is_kept_under_this_row(self):
         # The thing between is replaced only if the zone of the net is x; its own zone does not matter else.
-        rows = (*thing("a", 1), *thing("m", 'net.a.zone == "x"', "0", "box"), *thing("b", 5, 'box.m.zone == "eu"', "box"))
+        rows = (*thing("a", 1), *thing("m", 'net.a.zone == "x"', "0", "box"),
+            *thing("b", 5, 'box.m.zone == "eu"', "box"))
         entries = {"net.a": (1, 0, 0), "box.m": (3, False, 0), "box.b": (2, 5, "#1.id")}
         for zone, leans in (("eu", True), ("us", False)):
             found = self.assert_leans(leans, rows, entries, row=((("box.m", "zone"), zone),))
@@ -210,7 +213,8 @@ class LeaningTest(unittest.TestCase):
         rows = (*thing("a", 1), *thing("b", 5, "net.a.id", "box"))
         entries = {"net.a": (1, 0, 0), "box.b": (2, 5, "#1.id")}
         found = self.found(rows, entries, marks=("guarded",))
-        self.assertEqual((found["net.a"], found.fault_of("net.a"), found.is_strict("net.a")), ("fault", "guarded", True))
+        self.assertEqual((found["net.a"], found.fault_of("net.a"), found.is_strict("net.a")),
+            ("fault", "guarded", True))
         self.assertEqual((found["box.b"], found.leans("box.b")), ("behind", True))
         text = lines("kind net", *[f"  {mark}" for mark in (*MARKS, "held", "single")],
                      "kind box", *[f"  {mark}" for mark in (*MARKS, "guarded")])
@@ -218,7 +222,8 @@ class LeaningTest(unittest.TestCase):
         self.assertEqual((found["box.b"], found.fault_of("box.b")), ("fault", "guarded"))
         self.assertEqual((found.leans("box.b"), found.is_strict("box.b")), (True, True))
         found = self.found((*rows, *thing("c", 2)), entries, marks=("unique s",))
-        self.assertEqual((found.fault_of("net.a"), found.is_strict("net.a"), found["box.b"]), ("unique", True, "behind"))
+        self.assertEqual((found.fault_of("net.a"), found.is_strict("net.a"), found["box.b"]),
+            ("unique", True, "behind"))
 
 
 if __name__ == "__main__":

@@ -32,7 +32,8 @@ class AnswersTest(unittest.TestCase):
         self.assertEqual(planned(rows, {})[0], ["make net.c", "make box.b", "make net.z"])
 
     def test_changes(self):
-        for value, steps in (("net.z.id", ["make net.z", "change box.b"]), ("net.z.zone", ["make net.z", "change box.b"]),
+        for value, steps in (("net.z.id", ["make net.z", "change box.b"]),
+            ("net.z.zone", ["make net.z", "change box.b"]),
                              ("net.z.f", ["change box.b", "make net.z"])):
             self.assertEqual(planned((*NET, *block("box", "b", h=value)), {"box.b": thing(5)})[0], steps)
 
@@ -51,14 +52,16 @@ class EndingTest(unittest.TestCase):
         self.assertEqual(planned((), entries)[0], ["delete box.a", "delete box.b", "delete box.c"])
 
     def test_each_holder(self):
-        entries = {"net.a": thing(1), "net.y": thing(2, h="#1.id"), "net.z": thing(3, h=("#1.id",)), "rock.r": thing(4, u="#1.id")}
+        entries = {"net.a": thing(1), "net.y": thing(2, h="#1.id"), "net.z": thing(3, h=("#1.id",)),
+            "rock.r": thing(4, u="#1.id")}
         rows = (*block("net", "y"), *block("rock", "r", u="net.n.id"), *block("net", "n"))
         self.assertEqual(planned(rows, entries)[0], [
             "change net.y", "delete net.z", "make net.n", "change rock.r", "delete net.a"])
 
     def test_drops(self):
         left = (("net.x", thing(7)), ("net.x", thing(8, h="#7.id")), ("net.x", thing(9, h="#8.id")))
-        self.assertEqual(planned((), {"net.a": thing(2, h="#9.id")}, left)[0], ["delete net.a", "drop 9", "drop 8", "drop 7"])
+        self.assertEqual(planned((), {"net.a": thing(2, h="#9.id")}, left)[0],
+            ["delete net.a", "drop 9", "drop 8", "drop 7"])
 
     def test_behind_and_ahead(self):
         self.assertEqual(planned(block("pad", "p"), {"pad.p": thing(1, f=0)})[0], ["delete pad.p", "make pad.p"])
@@ -89,14 +92,17 @@ class UniqueTest(unittest.TestCase):
 
     def test_other_values(self):
         rows = (*block("box", "a", u="2"), *block("box", "b", u="3"))
-        self.assertEqual(planned(rows, {"box.a": thing(1, u=1), "box.b": thing(2, u="2")})[0], ["change box.a", "change box.b"])
-        self.assertEqual(planned(rows, {"box.a": thing(1, u=1), "box.b": thing(2, u=2)})[0], ["change box.b", "change box.a"])
+        self.assertEqual(planned(rows, {"box.a": thing(1, u=1), "box.b": thing(2, u="2")})[0],
+            ["change box.a", "change box.b"])
+        self.assertEqual(planned(rows, {"box.a": thing(1, u=1), "box.b": thing(2, u=2)})[0],
+            ["change box.b", "change box.a"])
 
     def test_alike_under_some_row(self):
         rows = (*NET, *block("box", "a", u="net.z.zone"), *block("box", "b", u="[1]"))
         entries = {"box.b": thing(1, u="eu")}
         self.assertEqual(planned(rows, entries)[0], ["change box.b", "make net.z", "make box.a"])
-        rows = (*NET, *block("net", "zz"), *block("box", "a", u="net.z.zone"), *block("box", "b", u="[1]", h="net.zz.id"))
+        rows = (*NET, *block("net", "zz"), *block("box", "a", u="net.z.zone"),
+            *block("box", "b", u="[1]", h="net.zz.id"))
         self.assertEqual(planned(rows, entries)[0], ["make net.z", "make net.zz", "change box.b", "make box.a"])
         entries = {"box.b": thing(1, u=5)}
         self.assertEqual(planned(rows, entries)[0], ["make net.z", "make box.a", "make net.zz", "change box.b"])
@@ -113,7 +119,8 @@ class UniqueTest(unittest.TestCase):
         left = (("hub.o", thing(9, u=5)),)
         self.assertEqual(planned(rows, {"box.h": thing(1, h="#9.id")}, left)[0], [
             "make net.z", "change box.h", "drop 9", "make hub.a"])
-        self.assertEqual(planned(rows, {"box.h": thing(1)}, left)[0], ["drop 9", "make hub.a", "make net.z", "change box.h"])
+        self.assertEqual(planned(rows, {"box.h": thing(1)}, left)[0],
+            ["drop 9", "make hub.a", "make net.z", "change box.h"])
 
 
 class HoldingTest(unittest.TestCase):
@@ -121,15 +128,18 @@ class HoldingTest(unittest.TestCase):
 
     def test_one_holds_the_other(self):
         rows = (*block("net", "p", h="net.q.id"), *block("net", "q", h="1"))
-        self.assertEqual(planned(rows, {"net.p": thing(1), "net.q": thing(2, h="#1.id")})[0], ["change net.q", "change net.p"])
-        self.assertEqual(planned(rows, {"net.p": thing(1), "net.q": thing(2, h="#3.id")})[0], ["change net.p", "change net.q"])
+        self.assertEqual(planned(rows, {"net.p": thing(1), "net.q": thing(2, h="#1.id")})[0],
+            ["change net.q", "change net.p"])
+        self.assertEqual(planned(rows, {"net.p": thing(1), "net.q": thing(2, h="#3.id")})[0],
+            ["change net.p", "change net.q"])
         # It held the other one before.
         entries = {"net.p": thing(1, u=9, h="#2.id"), "net.q": thing(2, h="#1.id")}
         self.assertEqual(planned(rows, entries)[0], ["change net.p", "change net.q"])
 
     def test_kinds_that_are_not_held(self):
         rows = (*block("rock", "p", h="rock.q.id"), *block("rock", "q", h="1"))
-        self.assertEqual(planned(rows, {"rock.p": thing(1), "rock.q": thing(2, h="#1.id")})[0], ["change rock.q", "change rock.p"])
+        self.assertEqual(planned(rows, {"rock.p": thing(1), "rock.q": thing(2, h="#1.id")})[0],
+            ["change rock.q", "change rock.p"])
 
     def test_over_others(self):
         rows = (*block("net", "p", h="net.q.id"), *block("net", "q", u="net.r.id"), *block("net", "r"))
@@ -218,8 +228,10 @@ class RingsTest(unittest.TestCase):
         left = (("net.x", thing(7, h="#8.id")), ("net.x", thing(8, h="#7.id")), ("net.x", thing(9, h="#8.id")))
         self.assertEqual(planned((), {}, left), (["drop 9"], ["left 7", "left 8"]))
         self.assertEqual(planned((), {}, left[:2]), ("Ring", [("drop", 7), ("drop", 8)]))
-        left = (*left, ("net.x", thing(6)), ("box.x", thing(5, h="#6.id")), ("net.x", thing(10, h="#11.id")), ("net.x", thing(11)))
-        self.assertEqual(planned((), {}, left), (["drop 5", "drop 6", "drop 9", "drop 10", "drop 11"], ["left 7", "left 8"]))
+        left = (*left, ("net.x", thing(6)), ("box.x", thing(5, h="#6.id")), ("net.x", thing(10, h="#11.id")),
+            ("net.x", thing(11)))
+        self.assertEqual(planned((), {}, left),
+            (["drop 5", "drop 6", "drop 9", "drop 10", "drop 11"], ["left 7", "left 8"]))
 
     def test_entries_that_hold_one_another(self):
         entries = {"net.x": thing(7, h="#8.id"), "net.y": thing(8, h="#7.id")}
@@ -244,7 +256,8 @@ class RingsTest(unittest.TestCase):
         found = planned((*self.SWAP, *more), entries)
         self.assertIn(found, (("Ring", [("change", "box.a"), ("change", "box.b")]),
                               ("Ring", [("change", "box.c"), ("change", "box.d")])))
-        self.assertEqual(planned((*self.SWAP, *more, *NET), entries), (["make net.z"], ["box.a", "box.b", "box.c", "box.d"]))
+        self.assertEqual(planned((*self.SWAP, *more, *NET), entries),
+            (["make net.z"], ["box.a", "box.b", "box.c", "box.d"]))
 
     def test_a_fault_comes_ahead_of_a_ring(self):
         rows = (*self.SWAP, *block("net", "z", h='1 + "a"'))

@@ -87,7 +87,8 @@ class ZonedTest(unittest.TestCase):
         program, empty = read_program(KINDS, ZONED), State()
         found = outcome(program=program, state=empty, row=((ZONE, "eu"),))
         self.assertEqual(found.fields_of(address="box.extra[a]")["size"], 1)
-        self.assertEqual((found.fault_of(address="net.z"), found.is_strict(address="net.z"), found.leans(address="net.z")),
+        self.assertEqual((found.fault_of(address="net.z"), found.is_strict(address="net.z"),
+            found.leans(address="net.z")),
                          (None, False, False))
 
 

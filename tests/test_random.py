@@ -53,7 +53,8 @@ class RandomTest(unittest.TestCase):
             for address in slow.giving():
                 for name, part in slow.told(address).items():
                     self.assertTrue(is_told(found[address][name], part), (about, address, name))
-            self.assertEqual([address for address in slow.addresses() if address in found], sorted(slow.giving()), about)
+            self.assertEqual([address for address in slow.addresses() if address in found], sorted(slow.giving()),
+                about)
 
     def check_outcome(self, found, view, about):
         self.assertEqual(list(found.addresses), view.addresses(), about)

@@ -84,7 +84,8 @@ class RowsTest(unittest.TestCase):
         self.assertIn(("change", "box.c"), made.steps)
 
     def test_unique_values_of_two_answers(self):
-        rows = (*self.NETS, *block("box", "a", u="net.y.zone"), *block("box", "b", u="net.z.zone"), *block("box", "c", u='"eu"'),
+        rows = (*self.NETS, *block("box", "a", u="net.y.zone"), *block("box", "b", u="net.z.zone"),
+            *block("box", "c", u='"eu"'),
                 *block("box", "d", u="[net.y.zone]"))
         made, _ = self.check(rows, {}, self.Y, self.Z)
         self.assertEqual(made.waiting, ("box.a", "box.b", "box.c"))
@@ -93,7 +94,8 @@ class RowsTest(unittest.TestCase):
         rows = (*self.NETS, *block("net", "x"),
                 *block("box", "a", u="1", h="net.y.zone == net.z.zone and net.z.zone == net.x.zone"),
                 *block("box", "b", u="2", h="if net.y.zone == net.z.zone then net.z.zone == net.x.zone else true"),
-                *block("box", "c", u="3", h="if net.y.zone == net.z.zone and net.z.zone == net.x.zone then net.x.zone else net.y.zone"),
+                *block("box", "c", u="3",
+                h="if net.y.zone == net.z.zone and net.z.zone == net.x.zone then net.x.zone else net.y.zone"),
                 *block("box", "d", u="4", h='net.y.zone in [net.z.zone, net.x.zone, "us"]'),
                 *block("box", 'e each if net.x.zone in [net.y.zone, "eu"] then ["k"] else ["k", "l"]', u="[each]"),
                 "deny box net.x.zone == net.y.zone and net.y.zone != net.z.zone")
@@ -105,7 +107,8 @@ class RowsTest(unittest.TestCase):
 
     def test_three_answers_that_are_never_alike_all_at_once(self):
         rows = (*self.NETS, *block("net", "x"),
-                *block("box", "a", u="1", h="net.y.zone == net.z.zone and net.z.zone == net.x.zone and net.y.zone != net.x.zone"),
+                *block("box", "a", u="1",
+                h="net.y.zone == net.z.zone and net.z.zone == net.x.zone and net.y.zone != net.x.zone"),
                 *block("box", "b", u="2", h='net.y.zone == "eu" and net.y.zone == net.x.zone and net.x.zone == "us"'))
         made, _ = self.check(rows, {}, self.X, self.Y, self.Z)
         self.assertTrue(same((made["box.a"]["h"], made["box.b"]["h"]), (False, False)))

@@ -29,7 +29,8 @@ class PlanTest(unittest.TestCase):
     def test_the_next_stage_of_it(self):
         entries = [("net.z", 3, Record(range=9), Record(id="#3.id", zone="eu")),
                    ("box.c", 4, Record(size=1, net="#3.id", label=("c",)), Record(id="#4.id"))]
-        entries += [(f"main/box.b[{at}]", at + 1, Record(size=3, net="none", label=("b", at)), Record(id=f"#{at + 1}.id"))
+        entries += [(f"main/box.b[{at}]", at + 1, Record(size=3, net="none", label=("b", at)),
+            Record(id=f"#{at + 1}.id"))
                     for at in (0, 1)]
         program = read_program(KINDS, ZONED)
         found = plan(program=program, state=state_of(KINDS, tuple(entries)))
@@ -44,7 +45,8 @@ class PlanTest(unittest.TestCase):
     def test_equal_calls(self):
         program = read_program(KINDS, ZONED)
         self.assertTrue(plan(program, State()) == plan(program, State()))
-        for text in (ZONED.replace("range 9", "range 8"), ZONED.replace('["a"] else []', '["b"] else []'), ZONED + "\nlet x 1",
+        for text in (ZONED.replace("range 9", "range 8"), ZONED.replace('["a"] else []', '["b"] else []'),
+            ZONED + "\nlet x 1",
                      ZONED.replace("net.z.zone", "home").replace('"eu"', "home"), ZONED.replace("count 2", "count 1")):
             other = plan(read_program(KINDS, text), State())
             self.assertIs(plan(program, State()) == other, text.endswith("let x 1"), text)
@@ -75,7 +77,8 @@ class PlanTest(unittest.TestCase):
                 *block("rock", "r", h="rock.s.id"), *block("rock", "s", h='1 + "a"'))
         found = plan(staged_program(*rows), staged_state(entries))
         self.assertEqual(found.waiting, ("rock.r", "rock.s"))
-        for value in ANY_VALUES + ("box.a", "box.b", "box.c", "pad.p", "box.old", "rock.r", "rock.s", "net.z", "box.a "):
+        for value in ANY_VALUES + ("box.a", "box.b", "box.c", "pad.p", "box.old", "rock.r", "rock.s", "net.z",
+            "box.a "):
             is_there = value in ("box.a", "box.b", "box.c", "pad.p")
             self.assertIs(value in found, is_there, value)
             if is_there:
@@ -112,7 +115,8 @@ class AnswersTest(unittest.TestCase):
 
     def test_answers_of_the_stage(self):
         for value in ("net.z.id", "net.z.zone", '[net.z.zone == "eu"]', "[net.z.id, net.z.zone]"):
-            self.assertEqual(planned((*NET, *block("box", "b", h=value)), {}), (["make net.z", "make box.b"], []), value)
+            self.assertEqual(planned((*NET, *block("box", "b", h=value)), {}), (["make net.z", "make box.b"], []),
+                value)
             self.assertEqual(planned((*NET, *block("box", "b", h=value)), {"net.z": thing(1, f=0)}), (
                 ["make net.z", "drop 1", "make box.b"], []), value)
 
@@ -164,8 +168,10 @@ class HoldersTest(unittest.TestCase):
         entries = {"net.old": thing(1), "box.b": thing(2, h="#1.id")}
         self.assertEqual(planned((), entries), (["delete box.b", "delete net.old"], []))
         self.assertEqual(planned(block("box", "b"), entries), (["change box.b", "delete net.old"], []))
-        self.assertEqual(planned(block("box", "b", f="2"), entries), (["delete box.b", "delete net.old", "make box.b"], []))
-        self.assertEqual(planned(block("box", "b", f="2", u="3"), entries), (["make box.b", "drop 2", "delete net.old"], []))
+        self.assertEqual(planned(block("box", "b", f="2"), entries),
+            (["delete box.b", "delete net.old", "make box.b"], []))
+        self.assertEqual(planned(block("box", "b", f="2", u="3"), entries),
+            (["make box.b", "drop 2", "delete net.old"], []))
 
     def test_a_holder_that_waits(self):
         entries = {"net.old": thing(1), "rock.r": thing(2, h="#1.id"), "box.x": thing(3)}
@@ -190,7 +196,8 @@ class HoldersTest(unittest.TestCase):
         self.assertEqual(planned((), {"net.old": thing(1)}, left), (["drop 7", "delete net.old"], []))
         self.assertEqual(planned((), {"box.old": thing(1)}, left), (["delete box.old", "drop 7"], []))
         left = (("net.x", thing(7, h="#1.id")), ("box.x", thing(8, h="#7.id")), ("net.x", thing(6, h="#8.id")))
-        self.assertEqual(planned((), {"net.old": thing(1)}, left), (["drop 6", "drop 8", "drop 7", "delete net.old"], []))
+        self.assertEqual(planned((), {"net.old": thing(1)}, left),
+            (["drop 6", "drop 8", "drop 7", "delete net.old"], []))
 
     def test_left_things_that_are_held(self):
         left = (("net.x", thing(7)), ("box.x", thing(8)), ("net.x", thing(9, h="#7.id")))

@@ -57,7 +57,8 @@ class StateTest(unittest.TestCase):
         address, number, fields, answers = DEEP
         for other in (
                 None, ("main/box.b[11]", number, fields, answers), (address, 13, fields, answers),
-                (address, number, fields | Record(size=1), answers), (address, number, fields | Record(label=("b",)), answers),
+                (address, number, fields | Record(size=1), answers),
+                (address, number, fields | Record(label=("b",)), answers),
                 (address, number, fields, Record(id="#1.id")), (address, number, fields, answers | Record(more=1))):
             entries = (NET, BOX, DEEPER) if other is None else (NET, BOX, DEEPER, other)
             self.assertFalse(state_of(KINDS, entries) == self.state, other)

@@ -69,7 +69,8 @@ class ToldTest(unittest.TestCase):
         self.assert_told('if net.z.zone == "eu" then net.z.id else net.y.id', OPEN)
 
     def test_values(self):
-        for text, value in (("1", 1), ("true", True), ('"eu"', "eu"), ("[]", ()), ('[1, [true, "a"]]', (1, (True, "a")))):
+        for text, value in (("1", 1), ("true", True), ('"eu"', "eu"), ("[]", ()),
+            ('[1, [true, "a"]]', (1, (True, "a")))):
             self.assert_told(text, value)
         self.assert_told("net.z.f", 1)
         self.assert_told('if net.z.zone == "eu" then 1 else 1', 1)
@@ -113,8 +114,9 @@ class ToldTest(unittest.TestCase):
         for at in range(3):
             rows += block("pad", f"{'abc'[at]}")
             entries[f"pad.{'abc'[at]}"] = thing(at + 1, zone=f"new-{at}")
-        self.assert_told("if net.z.zone == net.y.zone then net.z.zone in [pad.a.zone, pad.b.zone, pad.c.zone] else true",
-                         OPEN, *rows, entries=entries)
+        zones = "[pad.a.zone, pad.b.zone, pad.c.zone]"
+        self.assert_told(f"if net.z.zone == net.y.zone then net.z.zone in {zones} else true", OPEN, *rows,
+            entries=entries)
 
     def test_changed_and_replaced_things(self):
         rows = (*block("net", "z"), *block("net", "y", f="2", h="net.z.id"), *block("box", "b", h="net.z.zone", u="4"),
@@ -144,14 +146,16 @@ class JudgedTest(unittest.TestCase):
     def test_the_program_of_the_document(self):
         self.assertEqual(judged(read_program(KINDS, ZONED), State()), (
             ("box.c", 0, "allowed"), ("main/box.b[0]", 0, "allowed"), ("main/box.b[1]", 0, "allowed")))
-        self.assertEqual(judged(program=read_program(KINDS, ZONED.replace("own.size > 5", "own.size == 3")), state=State()), (
+        self.assertEqual(judged(program=read_program(KINDS, ZONED.replace("own.size > 5", "own.size == 3")),
+            state=State()), (
             ("box.c", 0, "allowed"), ("main/box.b[0]", 0, "denied"), ("main/box.b[1]", 0, "denied")))
 
     def test_words(self):
         for rule, word in (
                 ("true", "denied"), ("false", "allowed"), ("own.f == 1", "denied"), ("own.u > 5", "allowed"),
                 ('own.h == "eu"', "open"), ('net.z.zone == "eu"', "open"), ("own.h == net.z.zone", "denied"),
-                ("own.h == net.y.zone", "open"), ("own.h != net.z.zone", "allowed"), ("net.y.zone == net.z.zone", "open"),
+                ("own.h == net.y.zone", "open"), ("own.h != net.z.zone", "allowed"),
+                ("net.y.zone == net.z.zone", "open"),
                 ('if own.h == "eu" then true else own.u == 5', "denied"), ("own.h == net.z.id", "allowed")):
             self.assert_judged([word], f"deny box {rule}")
 
@@ -174,8 +178,10 @@ class JudgedTest(unittest.TestCase):
     def test_what_a_rule_sees(self):
         rows = ("let limit 4", "module m", "  input x", "  output twice x + x", "use m w", "  x limit",
                 "resource net k count 2", "  f 1", "  u 8", "  h index")
-        for rule, word in (("own.u > limit", "denied"), ("own.u > w.twice", "allowed"), ("own.u + 3 in net.k[*].u", "denied"),
-                           ("own.u == net.k[1].h", "allowed"), ("net.k[2].h == 1", "denied"), ("box.b.u == own.u", "denied")):
+        for rule, word in (("own.u > limit", "denied"), ("own.u > w.twice", "allowed"),
+            ("own.u + 3 in net.k[*].u", "denied"),
+                           ("own.u == net.k[1].h", "allowed"), ("net.k[2].h == 1", "denied"),
+                           ("box.b.u == own.u", "denied")):
             self.assert_judged([word], f"deny box {rule}", rows=rows)
 
     def test_things_in_uses(self):
@@ -183,7 +189,8 @@ class JudgedTest(unittest.TestCase):
         self.assertEqual(judged(staged_program(*rows), State()), (("w/box.n", 0, "denied"),))
 
     def test_only_what_the_stage_gives_fields(self):
-        rows = (*block("net", "z"), *block("box", "same", u="1"), *block("box", "changed", u="2"), *block("box", "made", u="3"),
+        rows = (*block("net", "z"), *block("box", "same", u="1"), *block("box", "changed", u="2"),
+            *block("box", "made", u="3"),
                 *block("box", "ahead", u="4"), *block("box", "behind", u="5"),
                 *block("box", 'waits each if net.z.zone == "eu" then ["x"] else []', u="6"), "deny box true")
         entries = {"box.same": thing(1, u=1), "box.changed": thing(2, u=22), "box.ahead": thing(3, f=0, u=33),
