@@ -192,6 +192,6 @@ def check_nothing_waits(stage):
         raise Faulty(name, faulty[name])
     if stage.rounds:
         # In a ring of nodes each one leads to the next one, so here each step comes behind the next one.
-        raise Ring(tuple(reversed(ring_in(stage.rounds[0]))))
+        raise Ring(tuple(reversed(list(ring_in(stage.rounds[0])))))
     if waiting:
         raise Stuck(waiting)

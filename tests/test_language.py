@@ -274,6 +274,15 @@ class StatementsTest(unittest.TestCase):
                     word == "keys" and isinstance(node.func, ast.Attribute)):
                 self.assertIn(node, at_once, (name, node.lineno))
 
+    def test_reversed_goes_over_what_is_plainly_a_sequence(self):
+        for name, node in nodes(ast.Call):
+            if isinstance(node.func, ast.Name) and node.func.id == "reversed":
+                self.assertEqual(len(node.args), 1, (name, node.lineno))
+                whole = node.args[0]
+                is_made = isinstance(whole, ast.Call) and isinstance(whole.func, ast.Name) and whole.func.id in (
+                    "list", "tuple", "sorted", "range")
+                self.assertTrue(is_made or isinstance(whole, (ast.List, ast.Tuple)), (name, node.lineno))
+
 
 class ClassesTest(unittest.TestCase):
     def test_methods_of_classes(self):
