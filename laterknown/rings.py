@@ -46,3 +46,24 @@ def nodes_behind(ways, node):
 def nodes_on_rings(ways):
     """The nodes that lead to themselves."""
     return [node for node in nodes_leading_on(ways) if node in nodes_behind(ways, node)]
+
+
+def ring_through(ways, node):
+    """A ring that begins with this node and has no node twice, () if there is none."""
+    before = {}
+    ahead = [node]
+    while ahead and node not in before:
+        found = []
+        for last in ahead:
+            for further in ways[last]:
+                if further not in before:
+                    before[further] = last
+                    found.append(further)
+        ahead = found
+    if node not in before:
+        return ()
+    way = [node]
+    while before[way[0]] != node:
+        way.insert(0, before[way[0]])
+    # The way ends with the node itself, and the ring begins with it.
+    return (node, *way[:-1])

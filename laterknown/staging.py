@@ -5,7 +5,7 @@ from laterknown.errors import Faulty, Ring, Stuck, Unsettled
 from laterknown.ordering import Order, steps_in_order
 from laterknown.prospects import prospect_of
 from laterknown.rings import nodes_on_rings, ring_in
-from laterknown.surveys import Survey
+from laterknown.surveys import settled_survey
 
 
 def common_deed(cases, address):
@@ -165,19 +165,28 @@ class Stage:
         return found
 
 
-def survey_of(program, state):
-    """The survey of a program and a state in which nothing is under way."""
+def check_settled(state):
+    """Raises Unsettled if a row is under way."""
     if state.under_way:
         raise Unsettled(state.under_way[0].number)
-    survey = Survey(program, state)
-    survey.settle()
-    return survey
+
+
+def survey_of(program, state):
+    """The survey of a program and a state in which nothing is under way."""
+    check_settled(state)
+    return settled_survey(program, state)
+
+
+def settled_stage(survey):
+    """The next stage, whether it has steps or not."""
+    stage = Stage(survey)
+    stage.settle()
+    return stage
 
 
 def stage_in(survey):
     """The next stage, settled; raises what plan raises."""
-    stage = Stage(survey)
-    stage.settle()
+    stage = settled_stage(survey)
     if not stage.sequence:
         check_nothing_waits(stage)
     return stage

@@ -12,16 +12,13 @@ ENDING = ("delete", "behind", "ahead")
 
 
 class Survey:
-    """The cases, one for each row that has to be looked at.
+    """The cases, one for each row that has to be looked at; what these hang on is taken up as asked."""
 
-    The given rows, dicts of texts by pairs (address, answer), are among those that are looked at.
-    """
-
-    def __init__(self, program, state, given=()):
+    def __init__(self, program, state, asked):
         self.layout = program.layout
         self.things = Things(program.kinds, state)
-        self.asked = Asked(used_texts(program, state, given), given)
-        self.shaper = Shaper(self.things, self.asked)
+        self.asked = asked
+        self.shaper = Shaper(self.things, asked)
         self.sign_numbers = {}
         self.cases = []
 
@@ -109,14 +106,24 @@ class Survey:
         return found
 
 
+def survey_with(program, state, given):
+    """A survey among whose rows are the given ones, dicts of texts by pairs (address, answer)."""
+    return Survey(program, state, Asked(used_texts(program, state, given), given))
+
+
+def settled_survey(program, state, given=()):
+    """A survey that has looked at all rows, the given ones among them."""
+    survey = survey_with(program, state, given)
+    survey.settle()
+    return survey
+
+
 def case_of_row(program, state, row):
     """The case of one row, a dict of texts by pairs."""
-    survey = Survey(program, state, (row,))
+    survey = survey_with(program, state, (row,))
     if not survey.settle_rows([row]):
         return survey.cases[0]
-    survey = Survey(program, state, (row,))
-    survey.settle()
-    return survey.case_under(row)
+    return settled_survey(program, state, (row,)).case_under(row)
 
 
 def settle_standing(standing, of_kind, unlike, leans):

@@ -1,0 +1,114 @@
+"""How lines and expressions are written anew, for another program that says the same."""
+
+from laterknown.errors import BadProgram, NoRoom
+from laterknown.expressions import JOIN_ROW, chain_of
+from laterknown.lines import NOWHERE, ROOT, Line
+from laterknown.programs import read_program
+from laterknown.showing import show_lines
+
+LITERALS = ("integer", "text")
+LETTERS = "abcdefghijklmnopqrstuvwxyz"
+
+
+def rewritten(expression, change):
+    """An expression in which each part, and in the end the whole, is what change makes of it."""
+    form, told, parts = expression
+    return change((form, told, tuple([rewritten(part, change) for part in parts])))
+
+
+def parts_within(expression):
+    """An expression with all expressions that stand in it."""
+    found = []
+    ahead = [expression]
+    while ahead:
+        found.append(ahead.pop())
+        ahead.extend(found[-1][2])
+    return found
+
+
+def is_written_index(expression):
+    """Whether an expression is an integer or a text in quotes."""
+    return expression[0] in LITERALS
+
+
+def names_block(expression, kind, name):
+    """Whether an expression names a field or an answer of a block."""
+    form, told, _ = expression
+    return form in ("one", "some", "all") and told[:2] == (kind, name)
+
+
+def moved_line(line, home, words, expression):
+    """A line with other words and another expression, and in the root or in a module."""
+    return Line((line.at, home, line.above), line.form, words, line.how, expression)
+
+
+def with_expression(line, expression):
+    """A line with another expression."""
+    return moved_line(line, line.home, line.words, expression)
+
+
+def changed_line(line, change):
+    """A line of the root in whose expression each part is what change makes of it; other lines are as before."""
+    if line.home != ROOT or line.expression is None:
+        return line
+    return with_expression(line, rewritten(line.expression, change))
+
+
+def begins_block(line, kind, name):
+    """Whether a line begins this block of the root."""
+    return line.home == ROOT and line.form == "resource" and line.words == (kind, name)
+
+
+def lines_of_block(lines, kind, name):
+    """The lines of a block of the root."""
+    first = [line for line in lines if begins_block(line, kind, name)][0]
+    return [first, *[line for line in lines if line.above == first.at]]
+
+
+def fresh_line(home, above, form, words, expression):
+    """A line that was in no program before."""
+    return Line((0, home, above), form, words, "", expression)
+
+
+def root_line(form, words, expression):
+    """A line of the root that stands in no block and no use."""
+    return fresh_line(ROOT, NOWHERE, form, words, expression)
+
+
+def joined_anew(expression):
+    """An expression without the parentheses that became needless by what was put into it."""
+    form, told, parts = expression
+    if form == "chain" and told[0] in JOIN_ROW:
+        return chain_of(JOIN_ROW, list(told), parts)
+    return expression
+
+
+def written_out(lets, expression):
+    """An expression of keys without lets: what they stand for is written in their places."""
+    form, told, parts = expression
+    if form == "name":
+        return written_out(lets, lets[told])
+    if form == "if":
+        condition, then, otherwise = parts
+        return (form, told, (condition, written_out(lets, then), written_out(lets, otherwise)))
+    if form == "chain":
+        return joined_anew((form, told, tuple([written_out(lets, part) for part in parts])))
+    return expression
+
+
+def plain_name(word, number):
+    """A name that begins with a word and is another one for each number."""
+    letters = LETTERS[number % 26]
+    rest = number // 26
+    while rest > 0:
+        letters = LETTERS[rest % 26] + letters
+        rest = rest // 26
+    return word + letters
+
+
+def new_program(kinds, lines):
+    """The program of these lines; raises NoRoom if it would be too large."""
+    try:
+        return read_program(kinds, show_lines(lines))
+    except BadProgram:
+        raise NoRoom() from None
