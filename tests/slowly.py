@@ -190,7 +190,9 @@ class Slow:
         self.state = state
         self.pairs = []
         self.asked = set()
-        self.texts = texts_of(program, state) + [f"fresh-{at}" for at in range(new_texts)]
+        used = texts_of(program, state)
+        self.new_texts = [text for text in [f"fresh-{at}" for at in range(20)] if text not in used][:new_texts]
+        self.texts = used + self.new_texts
         self.things = {state[address].number: (address, state[address], False) for address in state.addresses}
         self.things.update({entry.number: (address, entry, True) for address, entry in state.left})
         self.settle()

@@ -309,6 +309,10 @@ INTERFACE = {
     "outcomes": "outcome Outcome",
     "stages": "plan Plan",
     "telling": "Later judged",
+    "evidence": "why shows_why",
+    "worlds": "World",
+    "drift": "drift",
+    "refactoring": "quiet loud shows_loud renamed counted split wrapped",
 }
 
 
