@@ -6,17 +6,13 @@ from laterknown.errors import NotWaiting
 from laterknown.rings import ring_through
 from laterknown.staging import check_settled, common_deed, settled_stage
 from laterknown.surveys import settled_survey
+from laterknown.values import is_number
 
 STEP_WORDS = ("make", "change", "delete")
 # How many rows stand at the beginning of the evidence of each word.
 MANY_ROWS = {"actions": 2, "fault": 1, "fields": 2, "coming": 1, "held": 0, "unique": 1, "ring": 0}
 # How many parts stand behind the rows.
 MANY_PARTS = {"actions": 0, "fault": 0, "fields": 0, "coming": 1, "held": 1, "unique": 1, "ring": 1}
-
-
-def is_number(value):
-    """Whether any value is an integer that is no bool."""
-    return isinstance(value, int) and not isinstance(value, bool)
 
 
 class Witness:

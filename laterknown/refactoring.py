@@ -219,3 +219,6 @@ def wrapped(program, blocks, module, use):
     for address in wished_addresses(program):
         pairs.append((address, f"{use}/{address}" if block_of(address) in written else address))
     return new_program(program.kinds, wrapping.new_lines(module)), tuple(pairs)
+
+
+REFACTORINGS = {"renamed": renamed, "counted": counted, "split": split, "wrapped": wrapped}

@@ -3,6 +3,7 @@
 from laterknown.addresses import coming_answer, ids_in, kind_of
 from laterknown.evaluation import NoValue, Spot, value_of
 from laterknown.staging import stage_in, survey_of
+from laterknown.surveys import settled_survey
 from laterknown.values import Record, alike
 
 # What is told of a field of which nothing is known yet; no value is written so.
@@ -108,3 +109,27 @@ def judged(program, state):
         survey.settle()
         found = verdicts_of(stage_in(survey))
     return found
+
+
+def says_false_always(survey, address):
+    """Whether all rules for an address say false in all cases of a survey."""
+    for kind_name, expression in survey.layout.rules:
+        if kind_name == kind_of(address):
+            for case in survey.cases:
+                standing = case.standings.get(address, None)
+                if standing is None or standing.given is None or says_deny(case, expression, standing.given):
+                    return False
+    return True
+
+
+def is_allowed(program, state, address):
+    """Whether all rules for an address that is wished say false under all rows."""
+    if not [rule for rule in program.layout.rules if rule[0] == kind_of(address)]:
+        return True
+    survey = settled_survey(program, state)
+    allowed = says_false_always(survey, address)
+    while survey.asked.has_grown:
+        # A rule has asked for more than the fields do, so further rows have to be looked at.
+        survey.settle()
+        allowed = says_false_always(survey, address)
+    return allowed

@@ -14,9 +14,14 @@ TEXT_SIGNS = "abcdefghijklmnopqrstuvwxyz0123456789-"
 ID_SIGNS = "abcdefghijklmnopqrstuvwxyz0123456789-./[]"
 
 
+def is_number(value):
+    """Whether any value is an integer; a bool is none."""
+    return isinstance(value, int) and not isinstance(value, bool)
+
+
 def is_integer_value(value):
     """Whether any value is an integer that is a value."""
-    return isinstance(value, int) and not isinstance(value, bool) and -LARGEST_INTEGER <= value <= LARGEST_INTEGER
+    return is_number(value) and -LARGEST_INTEGER <= value <= LARGEST_INTEGER
 
 
 def is_text(value):

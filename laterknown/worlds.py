@@ -3,7 +3,7 @@
 from laterknown.addresses import ids_in_record
 from laterknown.errors import NoThing, Refused
 from laterknown.states import Entry
-from laterknown.values import Record, alike
+from laterknown.values import Record, alike, is_number
 
 
 class World:
@@ -42,7 +42,7 @@ class World:
 
     def __contains__(self, x):
         # What is no integer may have no hash, and Python takes True for 1.
-        return isinstance(x, int) and not isinstance(x, bool) and x in self._things
+        return is_number(x) and x in self._things
 
     def __len__(self):
         return len(self._things)
