@@ -141,7 +141,8 @@ def say_run(house, troubles):
     if not all([trouble in TAKES_PLACE for trouble in troubles]):
         raise NotWritten()
     made = house.plan()
-    return in_words([word for _, word in house.run(made, tuple(troubles))])
+    words = tuple(troubles)
+    return in_words([word for _, word in house.run(made, words)])
 
 
 def say_line(house, line):

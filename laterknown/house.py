@@ -50,11 +50,12 @@ class House:
 
     def refactor(self, word, *arguments):
         """Refactors the program, and moves the addresses of the state with it."""
-        if self._ledger.wished is None:
+        given = self._ledger.wished
+        if given is None:
             raise NoProgram()
         work = REFACTORINGS[word]
-        program, pairs = work(self._ledger.wished, *arguments)
-        self._ledger.refactor(program, pairs)
+        made, pairs = work(given, *arguments)
+        self._ledger.refactor(made, pairs)
 
     def undo(self):
         """Takes back the last wish, move or refactoring."""
@@ -111,7 +112,7 @@ class House:
         for address, entry in state.left:
             if listed_entry(realm, entry) is not None:
                 left.append((address, as_listed(realm, entry)))
-        self._ledger.recorded = State().renewed(entries, tuple(left), state.under_way)
+        self._ledger.record(State().renewed(entries, tuple(left), state.under_way))
 
     def take(self, address, number):
         """Records a thing of the world under an address."""
@@ -122,7 +123,7 @@ class House:
             raise Recorded(number)
         if not isinstance(address, str) or address in state or kind_of(address) != realm[number].kind:
             raise Taken(address)
-        self._ledger.recorded = with_entry(state, address, realm[number])
+        self._ledger.record(with_entry(state, address, realm[number]))
 
     def refresh(self):
         """Settles, then reads."""

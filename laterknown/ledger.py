@@ -61,6 +61,10 @@ class Ledger:
         self.many_rows += 1
         return self.many_rows
 
+    def record(self, state):
+        """Records this state."""
+        self.recorded = state
+
     def keep_past(self, pairs):
         """Keeps what is needed to take back a deed with these pairs of addresses."""
         self.past = (*self.past, (self.wished, pairs))

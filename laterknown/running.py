@@ -79,7 +79,7 @@ class Errand:
             return "stale"
         # The number is taken by the row that is written, not by one that was only thought of.
         self.ledger.next_row_number()
-        self.ledger.recorded = with_row(self.ledger.recorded, row)
+        self.ledger.record(with_row(self.ledger.recorded, row))
         word = self.request(row)
         if word == "done":
             self.done[step] = True
@@ -124,7 +124,7 @@ class Errand:
         self.has_stopped = trouble in STOPPING
         if not self.has_stopped:
             bare = without_row(self.ledger.recorded, row.number)
-            self.ledger.recorded = with_row(bare, row_until(row, self.ledger.realm.last))
+            self.ledger.record(with_row(bare, row_until(row, self.ledger.realm.last)))
 
     def sent_request(self, row):
         """The word for what the world makes of a request, and the number of the thing."""

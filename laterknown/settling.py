@@ -42,12 +42,12 @@ def close_as_done(ledger, row, number):
         state = without_entry(state, place)
     elif word == "drop":
         state = without_left(state, place)
-    ledger.recorded = state
+    ledger.record(state)
 
 
 def close_as_not_done(ledger, row):
     """Closes a row whose request did not take place."""
-    ledger.recorded = without_row(ledger.recorded, row.number)
+    ledger.record(without_row(ledger.recorded, row.number))
 
 
 def entry_of_row(state, row):
@@ -75,7 +75,7 @@ def settle_change(ledger, row, entry):
     """Closes the row of a change of the thing of an entry."""
     if entry.number not in ledger.realm:
         close_as_not_done(ledger, row)
-        ledger.recorded = without_entry(ledger.recorded, row.step[1])
+        ledger.record(without_entry(ledger.recorded, row.step[1]))
     elif ledger.realm[entry.number].fields == row.fields:
         close_as_done(ledger, row, entry.number)
     else:
@@ -102,7 +102,7 @@ def settle_rows(ledger):
     """Closes the rows under way, by their numbers, by what is listed."""
     last = ledger.realm.last
     rows = [row_until(row, last) if row.until is None else row for row in ledger.recorded.under_way]
-    ledger.recorded = with_rows(ledger.recorded, tuple(rows))
+    ledger.record(with_rows(ledger.recorded, tuple(rows)))
     for row in rows:
         settle_row(ledger, row)
 
@@ -151,7 +151,7 @@ def take_back(ledger, address, number):
     rows = rows_at(state, address)
     if rows:
         raise Unsettled(rows[0].number)
-    ledger.recorded = with_entry(without_left(state, number), address, entries[0])
+    ledger.record(with_entry(without_left(state, number), address, entries[0]))
 
 
 def is_left_thing(place, entry, address, number):
