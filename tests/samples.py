@@ -68,7 +68,7 @@ def outcome_of(call, *arguments):
     try:
         return call(*arguments)
     except LaterError as error:
-        return error.__class__.__name__, error.value
+        return error.__class__.__name__, getattr(error, "value", None)
 
 
 def problem_of(text, kinds=KINDS):
@@ -76,7 +76,7 @@ def problem_of(text, kinds=KINDS):
     try:
         read_program(kinds, text)
     except LaterError as error:
-        return error.__class__.__name__, error.value
+        return error.__class__.__name__, getattr(error, "value", None)
     return None
 
 

@@ -312,6 +312,10 @@ INTERFACE = {
     "evidence": "why shows_why",
     "worlds": "World",
     "drift": "drift",
+    "house": "House Trial tried",
+    "moving": "suggested_moves shows_moves",
+    "texts": "show_state show_plan read_state",
+    "desk": "Desk",
     "refactoring": "quiet loud shows_loud renamed counted split wrapped",
 }
 
