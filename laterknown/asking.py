@@ -30,6 +30,10 @@ class Asked:
         self.used_texts[f"new-{many}"] = True
         return f"new-{many}"
 
+    def begin_anew(self):
+        """Forgets that anything was taken up, ahead of another look at all rows."""
+        self.has_grown = False
+
     def ask(self, pair):
         """Takes up a free answer that is asked for."""
         if pair not in self.choices:

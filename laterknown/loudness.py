@@ -72,7 +72,7 @@ class Comparison:
     def loud_row(self):
         """Any row under which they are not the same, None if there is none."""
         while self.asked.has_grown:
-            self.asked.has_grown = False
+            self.asked.begin_anew()
             found = self.loud_among(self.asked.rows())
             if found is not None:
                 return written_row(found)
@@ -83,7 +83,8 @@ class Comparison:
         survey = Survey(self.one, State(), self.asked)
         survey.settle_rows(rows)
         others = {}
-        for case in survey.cases:
+        cases = list(survey.cases)
+        for case in cases:
             leading = tuple([pair for pair in self.pairs if pair[0] in case.standings])
             if not is_one_to_one(leading, case.standings):
                 return case.row

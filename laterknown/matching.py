@@ -68,7 +68,7 @@ class Matching:
         for place in seen:
             self.row_worth[self.row_at[place]] += step
             self.place_worth[place] -= step
-        for place in slack:
+        for place in list(slack):
             if place not in seen:
                 slack[place] -= step
 

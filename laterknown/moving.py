@@ -80,7 +80,7 @@ def levels_of(layout, addresses):
     sites = [site for site in layout.sites.values() if [at for at in addresses if block_of(at) == site.written]]
     known = {}
     # A block leads only to blocks of lesser depth, so these come first.
-    for site in sorted(sites, key=lambda site: site.depth):
+    for site in sorted(sites, key=lambda one: one.depth):
         known[site.written] = 1 + max([known[source] for source in site.sources if source in known], default=-1)
     many = max(list(known.values()), default=-1) + 1
     return [[at for at in addresses if known[block_of(at)] == level] for level in range(many)]

@@ -25,7 +25,7 @@ class Survey:
     def settle(self):
         """Looks at rows until no further ones have to be looked at."""
         while self.asked.has_grown:
-            self.asked.has_grown = False
+            self.asked.begin_anew()
             self.settle_rows(self.asked.rows())
 
     def settle_rows(self, rows):

@@ -274,6 +274,39 @@ class StatementsTest(unittest.TestCase):
                     word == "keys" and isinstance(node.func, ast.Attribute)):
                 self.assertIn(node, at_once, (name, node.lineno))
 
+    def test_loops_do_not_modify_what_they_iterate_over(self):
+        modifying = set("append clear extend insert pop remove reverse setdefault update add discard sort".split(" "))
+        for name, node in nodes(ast.For):
+            iterated = {ast.dump(node.iter)}
+            if isinstance(node.iter, ast.Call):
+                is_method = isinstance(node.iter.func, ast.Attribute)
+                inner = [node.iter.func.value] if is_method else node.iter.args
+                if is_method or node.iter.func.id not in ("list", "tuple", "sorted"):
+                    iterated |= {ast.dump(one) for one in inner}
+            for part in [each for row in node.body for each in ast.walk(row)]:
+                changed = []
+                if isinstance(part, ast.Subscript) and not isinstance(part.ctx, ast.Load):
+                    changed.append(part.value)
+                if isinstance(part, ast.Call) and isinstance(part.func, ast.Attribute) and part.func.attr in modifying:
+                    changed.append(part.func.value)
+                for one in changed:
+                    self.assertNotIn(ast.dump(one).replace("Store()", "Load()"), iterated, (name, part.lineno))
+
+    def test_generators_have_names_of_their_own(self):
+        defined = [node.name for _, node in nodes(ast.FunctionDef)]
+        for name, node in nodes(ast.FunctionDef):
+            if [part for part in ast.walk(node) if isinstance(part, (ast.Yield, ast.YieldFrom))]:
+                self.assertEqual(defined.count(node.name), 1, (name, node.name))
+                self.assertNotIn(node.name, METHODS)
+                for part in ast.walk(node):
+                    if isinstance(part, (ast.Try, ast.With)):
+                        self.assertEqual([one for one in ast.walk(part) if isinstance(one, ast.Yield)], [], name)
+
+    def test_attributes_are_assigned_through_a_local_name(self):
+        for name, node in nodes(ast.Attribute):
+            if isinstance(node.ctx, ast.Store):
+                self.assertIsInstance(node.value, ast.Name, (name, node.lineno))
+
     def test_reversed_goes_over_what_is_plainly_a_sequence(self):
         for name, node in nodes(ast.Call):
             if isinstance(node.func, ast.Name) and node.func.id == "reversed":
