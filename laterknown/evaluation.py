@@ -15,8 +15,8 @@ class NoValue(LaterError):
 class Spot:
     """Where an expression stands.
 
-    The ground tells what is named there; the key is what index or each stands for, own are the fields of the
-    thing that a rule is about.
+    The ground tells what is named there; the key is what index or each stands for, own are those fields of the
+    thing that a rule is about which have a value.
     """
 
     def __init__(self, ground, key, own):
@@ -88,6 +88,8 @@ def value_of_key(case, spot, told, parts):
 
 def value_of_own(case, spot, told, parts):
     """The value of a field of the thing that a rule is about."""
+    if told not in spot.own:
+        raise NoValue()
     return spot.own[told]
 
 

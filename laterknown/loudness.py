@@ -10,6 +10,7 @@ from laterknown.asking import Asked
 from laterknown.states import State
 from laterknown.surveys import Survey, used_texts
 from laterknown.telling import says_deny
+from laterknown.values import Record
 
 
 def with_names(value, names):
@@ -47,12 +48,12 @@ def is_one_to_one(leading, wished):
 
 
 def many_denying(case, address):
-    """How many rules deny an address that is wished; what has no fields is denied by none."""
+    """How many rules deny an address that is wished."""
     given = case.standings[address].given
-    if given is None:
-        return 0
+    # An address with the fault evaluate has no values, so a rule that names one cannot be evaluated either.
+    known = Record() if given is None else given
     rules = [expression for kind_name, expression in case.layout.rules if kind_name == kind_of(address)]
-    return len([expression for expression in rules if says_deny(case, expression, given)])
+    return len([expression for expression in rules if says_deny(case, expression, known)])
 
 
 def has_blocked(case):
@@ -102,21 +103,21 @@ class Comparison:
         like = survey.cases[0]
         if len(like.standings) != len(names) or has_blocked(case) != has_blocked(like):
             return False
-        return all([self.is_same_address(case, like, old, names) for old in names])
+        olds = {new: old for old, new in names.items()}
+        return all([self.is_same_address(case, like, pair, olds) for pair in names.items()])
 
-    def is_same_address(self, case, like, old, names):
-        """Whether an address stands in both cases alike."""
-        new = names[old]
+    def is_same_address(self, case, like, pair, olds):
+        """Whether an address stands in one case as its new name does in the other one."""
+        old, new = pair
         if new not in like.standings or kind_of(old) != kind_of(new):
             return False
         one, other = case.standings[old], like.standings[new]
-        if one.word != other.word or not self.has_same_fields(one.given, other.given, names):
+        if one.word != other.word or not self.has_same_fields(one.given, other.given, olds):
             return False
         return many_denying(case, old) == many_denying(like, new)
 
-    def has_same_fields(self, given, like, names):
+    def has_same_fields(self, given, like, olds):
         """Whether the fields of an old address are those of its new one."""
         if given is None or like is None:
             return given is None and like is None
-        olds = {new: old for old, new in names.items()}
         return all([self.asked.are_alike(given[name], with_names(like[name], olds)) for name in given.names])

@@ -64,8 +64,10 @@ class Order:
 
     def hangs_on(self, address, other):
         """Whether two rows that differ only in free answers of another address give unlike fields."""
-        pairs = [pair for pair in self.stage.survey.asked.choices if pair[0] != other]
-        return not self.stage.agree(address, pairs)
+        choices = self.stage.survey.asked.choices
+        pairs = [pair for pair in choices if pair[0] != other]
+        # Without free answers of the other address there are no two such rows.
+        return len(pairs) < len(choices) and not self.stage.agree(address, pairs)
 
     def order_ending(self, step, number):
         """Puts the end of a thing of a held kind behind the steps by which its holders let it go."""

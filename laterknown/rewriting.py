@@ -5,6 +5,7 @@ from laterknown.expressions import JOIN_ROW, chain_of
 from laterknown.lines import NOWHERE, ROOT, Line
 from laterknown.programs import read_program
 from laterknown.showing import show_lines
+from laterknown.tokens import MOST_TOKENS
 
 LITERALS = ("integer", "text")
 LETTERS = "abcdefghijklmnopqrstuvwxyz"
@@ -81,6 +82,43 @@ def joined_anew(expression):
     if form == "chain" and told[0] in JOIN_ROW:
         return chain_of(JOIN_ROW, list(told), parts)
     return expression
+
+
+def lets_of_keys(lets, expression):
+    """The names of the lets that an expression of keys needs, directly or over others."""
+    found = {}
+    ahead = [expression]
+    while ahead:
+        form, told, parts = ahead.pop()
+        if form == "name" and told not in found:
+            found[told] = True
+            ahead.append(lets[told])
+        elif form == "if":
+            ahead.extend(parts[1:])
+        elif form == "chain":
+            ahead.extend(parts)
+    return list(found)
+
+
+def least_tokens(lets, expression, known):
+    """As many tokens as an expression of keys has at least when its lets are written out; known are those of lets."""
+    form, told, parts = expression
+    if form == "name":
+        if told not in known:
+            known[told] = least_tokens(lets, lets[told], known)
+        return known[told]
+    if form == "if":
+        return 4 + sum([least_tokens(lets, part, known) for part in parts[1:]])
+    if form == "chain":
+        return len(told) + sum([least_tokens(lets, part, known) for part in parts])
+    return 1
+
+
+def keys_written_out(lets, expression):
+    """An expression of keys without lets; raises NoRoom if it would be far too long to be written at all."""
+    if least_tokens(lets, expression, {}) > MOST_TOKENS:
+        raise NoRoom()
+    return written_out(lets, expression)
 
 
 def written_out(lets, expression):

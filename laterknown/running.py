@@ -10,7 +10,7 @@ from laterknown.settling import candidates_for, close_as_done, close_as_not_done
 from laterknown.stages import plan
 from laterknown.staging import stage_in, survey_of
 from laterknown.states import Row
-from laterknown.telling import is_allowed, judged
+from laterknown.telling import is_allowed, judged_in
 
 # What comes of a request with each trouble: whether it takes place, and whether anything is told.
 TAKES_PLACE = {"ok": True, "fail": False, "lost": True, "void": False, "crash": True, "halt": False}
@@ -43,9 +43,9 @@ def check_steps(given, found):
         raise Stale(None)
 
 
-def check_rules(ledger):
-    """Raises Denied if a rule denies what the stage of now does."""
-    denied = [address for address, _, word in judged(ledger.wished, ledger.recorded) if word == "denied"]
+def check_rules(survey, stage):
+    """Raises Denied if a rule denies what the stage of a survey does."""
+    denied = [address for address, _, word in judged_in(survey, stage) if word == "denied"]
     if denied:
         raise Denied(min(denied))
 
@@ -55,13 +55,15 @@ class Errand:
 
     def __init__(self, ledger, given, troubles):
         check_sure(ledger)
-        stage = stage_in(survey_of(ledger.wished, ledger.recorded))
+        survey = survey_of(ledger.wished, ledger.recorded)
+        stage = stage_in(survey)
         check_steps(given, stage.sequence)
-        check_rules(ledger)
         self.ledger = ledger
         self.troubles = troubles
-        self.behind = Order(stage).behind
         self.deeds = stage.deeds
+        # The rules come last, for they may ask for more rows than those of the stage.
+        self.behind = Order(stage).behind
+        check_rules(survey, stage)
         self.done = {}
         self.sent = 0
         self.has_stopped = False

@@ -30,31 +30,35 @@ class Shape:
 
 
 class Shaper:
-    """Makes the shapes of a program and a state."""
+    """Makes the shapes of a program and a state; a site has one shape for the same fields."""
 
     def __init__(self, things, asked):
         self.things = things
         self.asked = asked
         self.made = {}
+        self.known = {}
         self.clashes = {}
 
     def shape_of(self, case, site):
         """The shape of a site in a case in which all answers that the site hangs on are known."""
         key = (site.written, tuple([case.signs[written] for written in site.sources]))
         if key not in self.made:
-            self.made[key] = self.new_shape(case, site)
+            self.made[key] = self.known_shape(site, fields_of_site(case, site))
         return self.made[key]
 
-    def new_shape(self, case, site):
-        """The shape of a site, evaluated."""
-        number = len(self.made)
-        try:
-            keys = case.instances_of(site)
-        except NoValue:
-            return Shape(number, site, True)
-        shape = Shape(number, site, False)
-        for key in keys:
-            self.take_up(shape, address_at(site.written, key), fields_under(case, site, key))
+    def known_shape(self, site, table):
+        """The shape of a site with this table of fields by addresses, None if the site is blocked."""
+        key = (site.written, written_fields(site, table))
+        if key not in self.known:
+            self.known[key] = self.new_shape(site, table)
+        return self.known[key]
+
+    def new_shape(self, site, table):
+        """A shape that there was not yet."""
+        shape = Shape(len(self.known), site, table is None)
+        if table is not None:
+            for address, given in table.items():
+                self.take_up(shape, address, given)
         return shape
 
     def take_up(self, shape, address, given):
@@ -103,6 +107,26 @@ class Shaper:
         if given is None or like is None:
             return False
         return any([self.asked.are_alike(given[name], like[name]) for name in of_kind.unique_fields])
+
+
+def fields_of_site(case, site):
+    """The fields of all instances of a site by their addresses, None if the site is blocked."""
+    try:
+        keys = case.instances_of(site)
+    except NoValue:
+        return None
+    return {address_at(site.written, key): fields_under(case, site, key) for key in keys}
+
+
+def written_fields(site, table):
+    """A text that is the same for two tables of fields of a site just if the fields are alike."""
+    if table is None:
+        return ""
+    rows = []
+    for address, given in table.items():
+        rows.append((address, None if given is None else tuple([given[name] for name in site.field_names])))
+    # Python takes True for 1, but does not write them alike.
+    return repr(rows)
 
 
 def fields_under(case, site, key):

@@ -103,7 +103,12 @@ def word_of(said):
 def judged(program, state):
     """What each rule says of each address that the stage makes, changes or replaces."""
     survey = survey_of(program, state)
-    found = verdicts_of(stage_in(survey))
+    return judged_in(survey, stage_in(survey))
+
+
+def judged_in(survey, stage):
+    """What the rules say of the addresses that get new fields in the stage of a survey."""
+    found = verdicts_of(stage)
     while survey.asked.has_grown:
         # A rule has asked for more than the fields do, so further rows have to be looked at.
         survey.settle()

@@ -88,7 +88,7 @@ class World:
                 if other != number and any([word in ids for word in ids_in_record(thing.fields)]):
                     raise Refused("held")
 
-    def _record_change(self, number, fields):
+    def _alter_thing(self, number, fields):
         entry = self._things[number]
         self._check_unique(entry.kind, number, fields)
         self._things[number] = Entry(entry.kind, number, fields, entry.answers)
@@ -116,7 +116,7 @@ class World:
         """Gives a thing other fields."""
         self._check_there(number)
         self._check_fixed(number, fields)
-        self._record_change(number, fields)
+        self._alter_thing(number, fields)
 
     def delete(self, number):
         """Deletes a thing, if it is there."""
@@ -133,7 +133,7 @@ class World:
         """Another hand gives a field of a thing another value."""
         self._check_there(number)
         altered = self._things[number].fields | Record.of(((field, value),))
-        self._record_change(number, altered)
+        self._alter_thing(number, altered)
 
     def remove(self, number):
         """Another hand deletes a thing."""

@@ -3,8 +3,8 @@
 from laterknown.errors import Loud
 from laterknown.lines import NOWHERE, ROOT
 from laterknown.rewriting import (
-    fresh_line, is_written_index, lines_of_block, moved_line, parts_within, plain_name, rewritten, root_line,
-    with_expression, written_out,
+    fresh_line, is_written_index, keys_written_out, lets_of_keys, lines_of_block, moved_line, parts_within, plain_name,
+    rewritten, root_line, with_expression,
 )
 
 # The new lines stand below the lines of these numbers; only that they stand below some is of matter.
@@ -28,15 +28,19 @@ class Wrapping:
         self.outputs = {}
         self.inner = []
         for kind, name in blocks:
-            self.inner.extend([self.inner_line(line) for line in lines_of_block(program.lines, kind, name)])
+            self.inner.extend(lines_of_block(program.lines, kind, name))
         places = {line.at: True for line in self.inner}
         self.outer = [line for line in program.lines if line.at not in places]
 
-    def inner_line(self, line):
-        """A line of a chosen block, without lets that its keys need."""
-        if line.how == "each":
-            return with_expression(line, written_out(self.lets, line.expression))
-        return line
+    def inner_expressions(self):
+        """The expressions of the chosen blocks, with those of the lets that their keys need."""
+        found = []
+        for line in self.inner:
+            if line.expression is not None:
+                found.append(line.expression)
+            if line.how == "each":
+                found.extend([self.lets[name] for name in lets_of_keys(self.lets, line.expression)])
+        return found
 
     def is_chosen(self, expression):
         """Whether an expression names a field or an answer of a chosen block."""
@@ -49,19 +53,18 @@ class Wrapping:
             return not self.is_chosen(expression)
         return expression[0] in ("name", "output")
 
-    def check_lines(self, lines, is_beyond):
-        """Raises Loud if a line names an instance on the other side by what is written neither way."""
-        for line in lines:
-            if line.expression is not None:
-                for part in parts_within(line.expression):
-                    if part[0] == "some" and is_beyond(part) and not is_written_index(part[2][0]):
-                        raise Loud("index")
+    def check_indexes(self, expressions, is_beyond):
+        """Raises Loud if an expression names an instance on the other side by what is no written index or key."""
+        for expression in expressions:
+            for part in parts_within(expression):
+                if part[0] == "some" and is_beyond(part) and not is_written_index(part[2][0]):
+                    raise Loud("index")
 
     def check(self):
         """Raises Loud if a side names an instance of the other one by what is no written index or key."""
-        self.check_lines(self.inner, lambda part: self.is_outside(part))
-        root_lines = [line for line in self.outer if line.home == ROOT]
-        self.check_lines(root_lines, lambda part: self.is_chosen(part))
+        self.check_indexes(self.inner_expressions(), lambda part: self.is_outside(part))
+        outer = [line.expression for line in self.outer if line.home == ROOT and line.expression is not None]
+        self.check_indexes(outer, lambda part: self.is_chosen(part))
 
     def name_for(self, names, word, expression):
         """The name for an expression among these names, the same one for the same expression."""
@@ -98,6 +101,8 @@ class Wrapping:
     def module_line(self, line):
         """What becomes of a line of a chosen block."""
         expression = line.expression
+        if line.how == "each":
+            expression = keys_written_out(self.lets, expression)
         if expression is not None:
             expression = rewritten(expression, lambda part: self.told_inside(part))
         return moved_line(line, MODULE, line.words, expression)

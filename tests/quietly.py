@@ -49,8 +49,10 @@ def is_quiet_under(one, other, pairs, row):
             return False
         if fields is not None:
             given = Record.of(tuple((name, with_names(fields[name], names)) for name in fields.names))
-            if given != others or denials(view, old) != denials(like, new):
+            if given != others:
                 return False
+        if denials(view, old) != denials(like, new):
+            return False
     return True
 
 

@@ -175,8 +175,9 @@ class View:
 
     def says(self, expression, address):
         """Whether a rule says true of an address."""
+        fields = self.fields[address]
         try:
-            value = value_of(self, Spot(self.layout.root(), None, self.fields[address]), expression)
+            value = value_of(self, Spot(self.layout.root(), None, Record() if fields is None else fields), expression)
         except NoValue:
             return True
         return value is not False

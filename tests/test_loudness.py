@@ -202,10 +202,15 @@ class FaultsTest(LoudTest):
         two = program(*net("z"), *box("d count 13"), *box("c count true"))
         self.check(blocked, two, pairs, True)
 
-    def test_rules_and_what_has_no_fields(self):
+    def test_rules_and_what_has_no_values(self):
+        # A rule that names a field of it cannot be evaluated, so it says true; others say what they say.
         pairs = (("box.c", "box.c"),)
         one = program(*box("c", "1 + true"))
-        self.check(one, program(*box("c", "1 + true"), "deny box own.size == 1"), pairs, True)
+        for rule, is_quiet in (("own.size == 1", False), ("own.net == 1", False), ("true", False), ("false", True),
+                               ("1 == 2 and own.size == 1", True)):
+            self.check(one, program(*box("c", "1 + true"), f"deny box {rule}"), pairs, is_quiet)
+        two = program(*box("c", "1 + true"), "deny box own.net == 2")
+        self.check(two, program(*box("c", "1 + true"), "deny box own.net == 3"), pairs, True)
 
 
 if __name__ == "__main__":

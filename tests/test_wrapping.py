@@ -149,6 +149,14 @@ class KeysTest(Wrapping):
             else:
                 self.check_no_room(wrapped, given, (("box", "k"),), "m", "u")
 
+    def test_no_room_for_lets_that_double_what_they_stand_for(self):
+        names = [f"l{letter}" for letter in "abcdefghijklmnopqrstuvwx"]
+        rows = [f"let {name} {further} ++ {further}" for name, further in zip(names, names[1:])]
+        given = program(*rows, f"let {names[-1]} []", *net("z"), *box(f"k each {names[0]}", "each", "each", "each"))
+        self.check_no_room(wrapped, given, (("box", "k"),), "m", "u")
+        # Errors that are listed first are told first.
+        self.check_errors(wrapped, given, (((("box", "k"),), "m", "net"), "Taken", "net"))
+
     def test_no_room_for_tokens(self):
         # Each let has 39 tokens where it is written out, with an input for the zone, and the last list has two.
         keys = "[" + ", ".join(f'"{letter}"' for letter in "abcdefghijklmnop") + "]"
