@@ -76,14 +76,6 @@ def root_line(form, words, expression):
     return fresh_line(ROOT, NOWHERE, form, words, expression)
 
 
-def joined_anew(expression):
-    """An expression without the parentheses that became needless by what was put into it."""
-    form, told, parts = expression
-    if form == "chain" and told[0] in JOIN_ROW:
-        return chain_of(JOIN_ROW, list(told), parts)
-    return expression
-
-
 def lets_of_keys(lets, expression):
     """The names of the lets that an expression of keys needs, directly or over others."""
     found = {}
@@ -130,7 +122,8 @@ def written_out(lets, expression):
         condition, then, otherwise = parts
         return (form, told, (condition, written_out(lets, then), written_out(lets, otherwise)))
     if form == "chain":
-        return joined_anew((form, told, tuple([written_out(lets, part) for part in parts])))
+        # What was put in may have made parentheses needless.
+        return chain_of(JOIN_ROW, list(told), tuple([written_out(lets, part) for part in parts]))
     return expression
 
 

@@ -178,6 +178,13 @@ class FieldsTest(Evidence):
 
     def test_without_fields(self):
         self.assertFalse(self.shows("hub.x[a]", "fields", (), EU))
+        # One field cannot be evaluated under some rows.
+        zone = 'hub.x["a"].zone'
+        self.given((*HUB, *block("box", "c", h=f'if net.z.zone == "eu" and {zone} == "q" then 1 + true else 5')))
+        one, other = self.row("eu", "q"), self.row("eu", "p")
+        self.assertTrue(self.shows("box.c", "actions", one, other))
+        self.assertFalse(self.shows("box.c", "fields", one, other))
+        self.assertFalse(self.shows("box.c", "fields", other, one))
 
 
 class ComingTest(Evidence):
@@ -221,6 +228,10 @@ class HeldTest(Evidence):
     def test_any_values(self):
         for value in (*ANY_VALUES, True, "4", (4,), [4], {}):
             self.assertIs(self.shows("net.gone", "held", value), False, value)
+        # True is not the number 1.
+        self.given((), {"net.gone": thing(3), "rock.old": thing(1, h="#3.id")})
+        self.assertIs(self.shows("net.gone", "held", 1), True)
+        self.assertIs(self.shows("net.gone", "held", True), False)
 
     def test_a_left_thing(self):
         self.given((), {"rock.old": thing(4, h="#3.id")}, (("net.a", thing(3)), ("box.a", thing(8, h="#3.id"))))
@@ -237,8 +248,10 @@ class HeldTest(Evidence):
         self.assertFalse(self.shows("left 4", "held", 9))
 
     def test_what_is_not_of_a_held_kind(self):
-        self.given((*block("box", "c", f="2", u="7"), *block("rock", "old", h="3")),
+        self.given((*HUB, *block("box", "c", f="2", u="7", h=of_hub("id"))),
                    {"box.c": thing(3, u=7), "rock.old": thing(4, h="#3.id")})
+        self.assertEqual(outcome(self.program, self.state)["box.c"], "behind")
+        self.check_word("box.c", "coming")
         self.assertFalse(self.shows("box.c", "held", 4))
 
     def test_what_is_changed(self):
@@ -312,7 +325,8 @@ class RingTest(Evidence):
         for wrong in ((), (one,), self.steps * 2, (one, other, ("make", "net.z")), (one, ("make", "box.b")), [one, other],
                       (one, list(other)), (one, ("change", ["box.b"])), (one, ("drop", 2)), (one, ("drop", "box.b")),
                       (one, ("change", 2)), (one, other, other), (one + ("x",), other), None, "ring", 1,
-                      (one, ("change", "box.c")), (one, ("turn", "box.b"))):
+                      (one, ("change", "box.c")), (one, ("turn", "box.b")), (one, ("change",)), (one, ()),
+                      (one, ([], "box.b")), (one, (("change", "box.b"), "box.b")), (one, "change")):
             self.assertIs(self.shows("box.a", "ring", wrong), False, wrong)
 
     def test_a_ring_of_another_thing(self):
@@ -329,6 +343,19 @@ class RingTest(Evidence):
         self.assertTrue(self.shows("box.a", "ring", ring))
         self.assertTrue(self.shows("box.a", "ring", ring[1:] + ring[:1]))
         self.assertFalse(self.shows("box.a", "ring", ring[::-1]))
+
+    def test_a_step_that_is_on_no_ring(self):
+        # Two pads hold one another, so neither can be deleted first; the new pad only comes behind.
+        self.given(block("pad", "a", f="2"), {"pad.a": thing(1, h="#2.id"), "pad.b": thing(2, h="#1.id")})
+        self.assertEqual(outcome(self.program, self.state)["pad.a"], "behind")
+        self.assertEqual(outcome_of(plan, self.program, self.state)[0], "Ring")
+        ring = (("delete", "pad.a"), ("delete", "pad.b"))
+        for name, number in (("pad.a", 2), ("pad.b", 1)):
+            # Now that both leave the stage, each is held by the other one.
+            self.check_found(name, "held", number)
+            self.assertTrue(self.shows(name, "ring", ring))
+            self.assertTrue(self.shows(name, "ring", ring[::-1]))
+        self.assertFalse(self.shows("pad.a", "ring", (("delete", "pad.a"), ("make", "pad.a"))))
 
     def test_a_left_thing_in_a_ring(self):
         # The new hub needs the value of the left one; what holds the left one lets it go behind the new one.
@@ -350,6 +377,9 @@ class ErrorsTest(Evidence):
                 why(self.program, self.state, waiting)
             self.assertEqual(caught.exception.value, waiting)
             for value in ANY_VALUES:
+                self.assertIs(shows_why(self.program, self.state, waiting, value), False)
+            for value in (("actions", (), EU), ("fault", ()), ("fields", (), EU), ("coming", (), "net.z"), ("held", 1),
+                          ("unique", (), 1), ("ring", (("make", "net.z"),))):
                 self.assertIs(shows_why(self.program, self.state, waiting, value), False)
         for value in ANY_VALUES:
             self.assertIs(shows_why(self.program, self.state, "hub.x[a]", value), False)

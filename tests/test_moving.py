@@ -241,7 +241,7 @@ class ShowsTest(Moving):
     def test_pairs_otherwise(self):
         pairs = self.right[0][0]
         for wrong in (
-                pairs[::-1], pairs[:2], pairs + pairs[2:], (("disk.x", "disk.a"), ("disk.y", "disk.b"), pairs[2]),
+                pairs[::-1], (pairs[1], pairs[0], pairs[2]), (pairs[0], pairs[2], pairs[1]), pairs[:2], pairs + pairs[2:], (("disk.x", "disk.a"), ("disk.y", "disk.b"), pairs[2]),
                 (("disk.x", "disk.b"), ("disk.z", "disk.a"), pairs[2]), list(pairs), (*pairs[:2], ["net.o", "net.n"]),
                 (*pairs[:2], ("net.o", "net.n", 1)), (*pairs[:2], ("net.o", 5)), (*pairs[:2], ("disk.z", "net.n")),
                 (*pairs[:2], ("net.o", "box.c")), (("disk.x", "disk.b"), ("disk.x", "disk.a"), pairs[2]), (), 5):
@@ -256,7 +256,7 @@ class ShowsTest(Moving):
                 self.assertIs(self.shows(self.with_level(0, evidence=wrong)), False, wrong)
             self.assertIs(self.shows(self.with_level(0, evidence=evidence[:at] + evidence[at + 1:])), False)
             self.assertIs(self.shows(self.with_level(0, evidence=evidence[:at + 1] + evidence[at:])), False)
-        for wrong in (evidence[::-1], list(evidence), (*evidence, ("net.zz", 0)), tuple(sorted((*evidence, ("box.c", 0)))), (), 5):
+        for wrong in (evidence[::-1], (evidence[1], evidence[0], *evidence[2:]), list(evidence), (*evidence, ("net.zz", 0)), tuple(sorted((*evidence, ("box.c", 0)))), (), 5):
             self.assertIs(self.shows(self.with_level(0, evidence=wrong)), False, wrong)
 
     def test_other_evidence(self):
@@ -266,6 +266,21 @@ class ShowsTest(Moving):
             self.assertTrue(self.shows((((("disk.x", "disk.a"),), (("disk.a", one), ("disk.x", 43 - one))),)), one)
         for one in (-1, 44):
             self.assertFalse(self.shows((((("disk.x", "disk.a"),), (("disk.a", one), ("disk.x", 43 - one))),)), one)
+
+    def test_one_lost_address_in_two_pairs(self):
+        self.given((*disk("a"), *disk("b")), {"disk.x": a_disk(1)})
+        pairs = (("disk.x", "disk.a"), ("disk.x", "disk.b"))
+        self.assertFalse(self.shows(((pairs, (("disk.a", 85), ("disk.b", 85), ("disk.x", 0))),)))
+        self.given(disk("a"), {"disk.x": a_disk(1), "disk.y": a_disk(2)})
+        pairs = (("disk.x", "disk.a"), ("disk.y", "disk.a"))
+        self.assertFalse(self.shows(((pairs, (("disk.a", 0), ("disk.x", 85), ("disk.y", 85))),)))
+
+    def test_pairs_of_any_values(self):
+        evidence = self.right[0][1]
+        for value in ANY_VALUES:
+            for pair in ((value, "disk.a"), ("disk.x", value), (value, value)):
+                self.assertIs(self.shows((((pair,), evidence), self.right[1])), False, pair)
+            self.assertIs(self.shows(((self.right[0][0], ((value, 1),)), self.right[1])), False, value)
 
     def test_levels_otherwise(self):
         first, second = self.right

@@ -53,6 +53,22 @@ class Refactoring(unittest.TestCase):
         self.assertEqual(caught.exception.__class__.__name__, "NoRoom")
 
 
+class UseLikeBlockTest(Refactoring):
+    """A use and its module may be called like a block and its kind."""
+
+    USE = (*module("box", "input top", "output all top"), "use box c", "  top 5")
+
+    def test_lines_of_blocks(self):
+        given = program(*self.USE, *box("c", "c.all"), *box("d count 1", "box.c.size", "c.all"))
+        self.check(renamed, given, ("box", "c", "x"), (
+            *self.USE, *box("x", "c.all"), *box("d count 1", "box.x.size", "c.all")), "box.c box.x", "box.d[0]")
+        self.check(counted, given, ("box", "c"), (
+            *self.USE, *box("c count 1", "c.all"), *box("d count 1", "box.c[0].size", "c.all")), "box.c box.c[0]", "box.d[0]")
+        given = program(*self.USE, *box("c count 1", "c.all"), "let a [box.c[*].size, c.all]")
+        self.check(split, given, ("box", "c", ("x",)), (
+            *self.USE, *box("x", "c.all"), "let a [[box.x.size], c.all]"), "box.c[0] box.x")
+
+
 class NoBlockTest(Refactoring):
     def test_any_values_as_kind_and_name(self):
         given = read_program(KINDS, ZONED)
@@ -251,6 +267,13 @@ class SplitTest(Refactoring):
         # An index in parentheses is written all the same, and those of other blocks do not matter.
         given = program(*box("b count 2", label="index"), "let a box.b[(1)].id", *net("b count 1"), "let c net.b[1 - 1].id")
         self.assertEqual(split(given, "box", "b", ("x", "y"))[0].outline.root().lets["a"][0], "one")
+
+    def test_indexes_in_modules(self):
+        # What a module names is its own.
+        rows = module("pair", "input top", *box("b count 2", label="index"), "output one box.b[top].id")
+        given = program(*box("b count 1"), *rows, "use pair main", "  top 1")
+        self.check(split, given, ("box", "b", ("x",)), (*box("x"), *rows, "use pair main", "  top 1"),
+                   "box.b[0] box.x", "main/box.b[0]", "main/box.b[1]")
 
     def test_names(self):
         given = program(*box("b count 2", label="index"), *box("c"), *net("x"), "let y 1")

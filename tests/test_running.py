@@ -312,6 +312,11 @@ class DeniedTest(Running):
         house = a_house(*net("z"), *rock("r", net="net.z.zone"), 'deny rock own.net == "us"')
         self.assertEqual(ran(house), ["make net.z done", "make rock.r done"])
 
+    def test_rules_for_other_kinds(self):
+        rules = ("deny net own.range > 5", "deny rock own.net == 5", "deny box true")
+        house = a_house(*net("z"), *rock("r"), *rules)
+        self.assertEqual(ran(house), ["make net.z done", "make rock.r done"])
+
     def test_what_is_not_known_yet(self):
         # Whether the rule denies hangs on an answer that is not known when the rock is made.
         house = a_house(*net("z"), *rock("a"), 'deny rock net.z.zone == "us"')

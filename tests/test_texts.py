@@ -186,7 +186,7 @@ class BadTextTest(unittest.TestCase):
     def test_values(self):
         for word in ("1000001", "-1000001", "01", "-0", "+1", "- 1", "1.0", '"A"', '"abcdefghij01234567890"', "a", '"a', 'a"',
                      "'a'", "True", "None", "#1", "#0.id", "#01.id", "#1234567890123.id", "#1.", "#1.iD", "#1.abcdefghijklm",
-                     "#net.z.id", "#.id", "#1.a.b", "#1.id]", "?net.z.zone", '"#1.id"', "[", "]", "[1,2]", "[1, ]", "[, 1]",
+                     "#net.z.id", "#.id", "#1.a.b", "#1.id]", "?net.z.zone", "?1.id", "a1.id", "11.id", '"#1.id"', "[", "]", "[1,2]", "[1, ]", "[, 1]",
                      "[1 , 2]", "[ 1]", "[1 ]", "[1, 2", "[[[[]]]]", "[" + ", ".join(["1"] * 17) + "]", "{}", "open",
                      "later net.z.id", "(1)", "1 + 1", "-", "--1", '""""', "", "[" * 5000, "[" * 5000 + "]" * 5000):
             self.check_line(2, f'net 9 {{range: {word}, size: 1}} {{id: #9.id, zone: "eu"}}',

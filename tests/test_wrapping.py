@@ -79,6 +79,19 @@ class BlocksTest(Wrapping):
         self.wrap(given, (("net", "n"), ("net", "k")), (), inner, "box.c", *moved)
         self.wrap(given, (("net", "n"), ("net", "k"), ("box", "c")), (), (), "box.c owned/box.c", *moved)
 
+    def test_a_use_and_a_module_that_are_called_like_a_block_and_its_kind(self):
+        given = program(*module("box", "input top", "output all top"), "use box c", "  top net.z.id", *net("z"),
+                        *box("c", "c.all"), "let a [box.c.size, c.all]")
+        self.wrap(given, (("box", "c"),), ("c.all",), ("box.c.size",), "net.z", "box.c owned/box.c")
+        self.wrap(given, Z, (), ("net.z.id",), "net.z owned/net.z", "box.c")
+
+    def test_indexes_in_modules(self):
+        # What a module names is its own.
+        given = program(*net("n count 2"), *module("pair", "input top", *net("n count 2"), "output one net.n[top].id"),
+                        "use pair main", "  top 1")
+        self.wrap(given, (("net", "n"),), (), (), "net.n[0] owned/net.n[0]", "net.n[1] owned/net.n[1]",
+                  "main/net.n[0]", "main/net.n[1]")
+
     def test_count_and_index(self):
         given = program("let many 2", *net("z"), *box("c count many", "index", 'if index == 0 then net.z.zone else "a"', "index"))
         self.wrap(given, (("box", "c"),), ("many", "net.z.zone"), (), "net.z", "box.c[0] owned/box.c[0]",
@@ -192,6 +205,17 @@ class ErrorsTest(Wrapping):
             self.check_errors(wrapped, given, (((("box", "c"),), "m", "u"), "Loud", "index"))
         given = program(*net("n count 2"), 'let a if net.n[1 - 1].zone == "eu" then ["x"] else []', *box("c each a"))
         self.check_errors(wrapped, given, (((("box", "c"),), "m", "u"), "Loud", "index"))
+        # The conditions of lets that keys need over others are conditions of the keys.
+        named = 'let a if net.n[1 - 1].zone == "eu" then ["x"] else []'
+        for rows in (("let b a",), ('let b ["y"] ++ a',), ('let b if true then [] else a',), ("let b c", "let c a"),
+                     ('let b if true then a else ["z"]',)):
+            given = program(*net("n count 2"), named, *rows, *box("c each b"))
+            self.check_errors(wrapped, given, (((("box", "c"),), "m", "u"), "Loud", "index"))
+            # As an input, a let may name what it will.
+            given = program(*net("n count 2"), named, *rows, *box("c", "b"))
+            wrapped(given, (("box", "c"),), "m", "u")
+            given = program(*net("n count 2"), named, *rows, *box('c each if b == [] then ["x"] else []'))
+            wrapped(given, (("box", "c"),), "m", "u")
         given = program(*net("n count 2"), *box("c count net.n[1 - 1].range"))
         self.check_errors(wrapped, given, (((("box", "c"),), "m", "u"), "Loud", "index"))
         # Indexes that name no instance are written all the same.
@@ -242,6 +266,13 @@ class ErrorsTest(Wrapping):
                 else:
                     self.check_no_room(wrapped, given, Z, "m", "u")
                     self.check_no_room(wrapped, tells, (("net", "n"),), "m", "u")
+
+    def test_many_inputs(self):
+        # There are more of them than letters.
+        indexes = [f"[{', '.join([f'net.n[{at}].{part}' for at in range(12)])}]" for part in ("id", "zone", "range")]
+        given = program(*net("n count 12"), *box("c", *indexes))
+        self.check_no_room(wrapped, given, (("box", "c"),), "m", "u")
+        self.check_no_room(wrapped, given, (("net", "n"),), "m", "u")
 
     def test_twelve_blocks_have_room(self):
         rows = [row for letter in "abcdefghijkl" for row in net(f"n{letter}")]
